@@ -1,0 +1,1 @@
+"""Crossheaps: one program on two heaps."""

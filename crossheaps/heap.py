@@ -1,0 +1,295 @@
+"""Both heaps with their counts, steps and falls."""
+from crossheaps.forms import is_global
+from crossheaps.graph import reach_of
+from crossheaps.pages import Shelf
+from crossheaps.things import Thing, closes, held_by, is_object, object_value, twin_of
+
+
+class Sweep:
+    """A running cycle: its first new number, how far it is, and the kept objects."""
+
+    def __init__(self, first, marks):
+        self.first = first
+        self.done = 0
+        self.marks = marks
+
+
+class Heap:
+    """The objects, and what holds them.
+
+    `scopes` has the variables of the script, then those of each running call. `suspects` are
+    the candidates, `line` is the queue, `sweep` the running cycle. `before` has the counts that
+    changed in the current step, as they were ahead of it; `zeros` are counted objects whose
+    counts came to 0 and which wait for the next falls. `losses` counts what settle looks for.
+    """
+
+    def __init__(self):
+        self.objects = {}
+        self.scopes = [{}]
+        self.line = []
+        self.suspects = {}
+        self.sweep = None
+        self.shelf = Shelf()
+        self.fresh = 0
+        self.events = []
+        self.losses = 0
+        self.before = {}
+        self.zeros = {}
+
+    def tell(self, event):
+        self.events.append(event)
+
+    def taken(self):
+        """The events since the last call."""
+        events = self.events
+        self.events = []
+        return events
+
+    def tell_loss(self, event):
+        """Tells an event for which settle makes another round."""
+        self.events.append(event)
+        self.losses += 1
+
+    def gain(self, value):
+        """Counts one more that holds the value."""
+        if not is_object(value):
+            return
+        thing = self.objects[value[1]]
+        if thing.home == "counted":
+            self.before.setdefault(thing.number, thing.count)
+            thing.count += 1
+
+    def lose(self, value):
+        """Counts one less; objects that are freed together may have lost each other already."""
+        if not is_object(value) or value[1] not in self.objects:
+            return
+        thing = self.objects[value[1]]
+        if thing.home == "counted":
+            self.before.setdefault(thing.number, thing.count)
+            thing.count -= 1
+
+    def gain_in(self, holder, value):
+        """Counts a value that is stored into an object."""
+        if holder.home == "counted":
+            self.gain(value)
+        elif is_object(value):
+            thing = self.objects[value[1]]
+            if thing.home == "counted" and thing.proxy is None:
+                self.gain(value)
+                thing.proxy = 0
+
+    def lose_in(self, holder, value):
+        """Counts a value that an object lets go; the proxies of traced holders stay."""
+        if holder.home == "counted":
+            self.lose(value)
+
+    def end_step(self):
+        """What is behind each step, but for its falls."""
+        for number in sorted(list(self.before)):
+            if number in self.objects:
+                count = self.objects[number].count
+                if count == 0:
+                    self.zeros[number] = True
+                elif count < self.before[number]:
+                    self.suspects.setdefault(number, True)
+        self.before = {}
+
+    def fallen(self):
+        """The objects that join the falling list now, ascending."""
+        found = []
+        for number in sorted(list(self.zeros)):
+            if number in self.objects and self.objects[number].count == 0:
+                found.append(number)
+        self.zeros = {}
+        return found
+
+    def fall(self):
+        falling = self.fallen()
+        at = 0
+        while at < len(falling):
+            self.give_up(self.objects[falling[at]])
+            self.end_step()
+            falling.extend(self.fallen())
+            at += 1
+
+    def step(self):
+        """Ends a step with its falls."""
+        self.end_step()
+        self.fall()
+
+    def give_up(self, thing):
+        """Clears and removes what stands by a falling object, then queues or frees it."""
+        for weak in sorted(list(thing.weaks)):
+            self.clear_weak(weak)
+        for owner in sorted(list(thing.maps)):
+            self.unkey(owner, thing.number)
+        if closes(thing):
+            self.enqueue(thing)
+        else:
+            self.free(thing)
+
+    def clear_weak(self, number):
+        weak = self.objects[number]
+        del self.objects[weak.target].weaks[number]
+        weak.target = None
+        self.tell_loss(("clear", number))
+
+    def unkey(self, owner, key):
+        self.cut_entry(self.objects[owner], key)
+        self.tell_loss(("unkey", owner, key))
+
+    def cut_entry(self, owner, key):
+        """Removes an entry without an event."""
+        value = owner.entries[key]
+        del owner.entries[key]
+        del self.objects[key].maps[owner.number]
+        self.lose_in(owner, value)
+
+    def enqueue(self, thing):
+        thing.queued = True
+        self.line.append(thing.number)
+        self.gain(object_value(thing.number))
+        self.tell_loss(("queue", thing.number))
+        self.keep(thing.number)
+
+    def keep(self, number):
+        """Keeps more if an object that the running cycle has given up comes back."""
+        sweep = self.sweep
+        if sweep is None or number >= sweep.first or number in sweep.marks:
+            return
+        starts = [other for other in self.objects if other >= sweep.first]
+        starts = starts + list(sweep.marks) + self.line + [number]
+        reach = reach_of(self, starts)
+        sweep.marks = {other: True for other in reach if other < sweep.first}
+
+    def free(self, thing):
+        number = thing.number
+        del self.objects[number]
+        self.forget(thing)
+        for value in held_by(thing):
+            self.lose_in(thing, value)
+        self.tell_loss(("free", number))
+
+    def forget(self, thing):
+        """Takes a freed object off all that names it."""
+        number = thing.number
+        if number in self.suspects:
+            del self.suspects[number]
+        if self.sweep is not None and number in self.sweep.marks:
+            del self.sweep.marks[number]
+        if thing.home == "traced":
+            self.shelf.take(number)
+        if thing.target is not None and thing.target in self.objects:
+            del self.objects[thing.target].weaks[number]
+        for key in thing.entries:
+            if key in self.objects:
+                del self.objects[key].maps[number]
+
+    def unproxy(self, thing):
+        thing.proxy = None
+        self.lose(object_value(thing.number))
+        self.tell_loss(("unproxy", thing.number))
+
+    def scope_of(self, name):
+        """The variables among which a name is looked for."""
+        return self.scopes[0] if is_global(name) else self.scopes[-1]
+
+    def assign(self, scope, name, value):
+        """The step of an assignment of a variable."""
+        self.gain(value)
+        old = scope.get(name)
+        scope[name] = value
+        self.lose(old)
+        self.step()
+
+    def unset(self, scope, name):
+        """The step of a drop."""
+        value = scope[name]
+        del scope[name]
+        self.lose(value)
+        self.step()
+
+    def store(self, holder, slot, value):
+        """The step of an assignment of a slot."""
+        self.gain_in(holder, value)
+        old = holder.slots[slot]
+        holder.slots[slot] = value
+        self.lose_in(holder, old)
+        self.step()
+
+    def enter(self, owner, key, value):
+        """The step of an assignment of an entry."""
+        if value is not None:
+            self.gain_in(owner, value)
+            old = owner.entries.get(key)
+            owner.entries[key] = value
+            self.objects[key].maps[owner.number] = True
+            self.lose_in(owner, old)
+        elif key in owner.entries:
+            self.cut_entry(owner, key)
+        self.step()
+
+    def add_hold(self, thing):
+        thing.holds += 1
+        self.gain(object_value(thing.number))
+        self.step()
+
+    def end_hold(self, thing):
+        thing.holds -= 1
+        self.lose(object_value(thing.number))
+        self.step()
+
+    def add_pin(self, thing):
+        thing.pins += 1
+        self.gain(object_value(thing.number))
+        self.step()
+
+    def end_pin(self, thing):
+        thing.pins -= 1
+        self.lose(object_value(thing.number))
+        self.step()
+
+    def take_first(self, scope, name):
+        """The step in which the first object of the queue becomes a parameter of its call."""
+        value = object_value(self.line[0])
+        self.line = self.line[1:]
+        self.gain(value)
+        scope[name] = value
+        self.lose(value)
+        self.step()
+
+    def new_thing(self, home, sort):
+        """A new object that nothing holds yet."""
+        thing = Thing(self.fresh, home, sort)
+        self.fresh += 1
+        self.objects[thing.number] = thing
+        if home == "traced":
+            self.house(thing)
+        return thing
+
+    def house(self, thing):
+        """Gives a new traced object its place."""
+        place = self.shelf.room("young", {})
+        if place is None:
+            page = self.shelf.make("young")
+            self.tell(("page", page, "young"))
+            place = (page, 0)
+        self.shelf.put(thing.number, place)
+
+    def aim(self, weak, target):
+        weak.target = target
+        self.objects[target].weaks[weak.number] = True
+
+    def twin(self):
+        """An independent heap that is the same, outside of a run."""
+        other = Heap()
+        other.objects = {number: twin_of(self.objects[number]) for number in self.objects}
+        other.scopes = [dict(scope) for scope in self.scopes]
+        other.line = list(self.line)
+        other.suspects = dict(self.suspects)
+        if self.sweep is not None:
+            other.sweep = Sweep(self.sweep.first, dict(self.sweep.marks))
+            other.sweep.done = self.sweep.done
+        other.shelf = self.shelf.twin()
+        other.fresh = self.fresh
+        return other

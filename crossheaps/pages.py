@@ -1,0 +1,86 @@
+"""Pages: the places of traced objects."""
+
+CELLS = 8
+
+
+def emptied(pages, moves):
+    """The pages to empty: as many as possible, with the fewest moves, the least ones.
+
+    Pages are (page, objects, pinned). Whatever pages are emptied, the objects of all pages
+    must fit into the others, so that their number is bounded whichever they are.
+    """
+    total = sum([row[1] for row in pages])
+    bound = len(pages) - (total + CELLS - 1) // CELLS
+    loads = sorted([(objects, page) for page, objects, pinned in pages if not pinned])
+    found = []
+    left = moves
+    for objects, page in loads:
+        if len(found) == bound or objects > left:
+            break
+        left -= objects
+        found.append(page)
+    return tuple(sorted(found))
+
+
+class Shelf:
+    """The pages, and the place (page, cell) of each traced object."""
+
+    def __init__(self):
+        self.kinds = {}
+        self.cells = {}
+        self.places = {}
+        self.made = 0
+
+    def room(self, kind, barred):
+        """The least free place of the pages of a kind that are not barred, None without one."""
+        for page, cells in self.cells.items():
+            if self.kinds[page] == kind and page not in barred and None in cells:
+                return (page, cells.index(None))
+        return None
+
+    def make(self, kind):
+        """Makes a page and returns its number."""
+        page = self.made
+        self.made += 1
+        self.kinds[page] = kind
+        self.cells[page] = [None] * CELLS
+        return page
+
+    def put(self, number, place):
+        self.places[number] = place
+        self.cells[place[0]][place[1]] = number
+
+    def take(self, number):
+        """Frees the cell of an object."""
+        page, cell = self.places[number]
+        self.cells[page][cell] = None
+        del self.places[number]
+
+    def kind_of(self, number):
+        """The kind of the page in which an object lies."""
+        return self.kinds[self.places[number][0]]
+
+    def inhabitants(self, page):
+        """The numbers of the objects of a page, in the order of their cells."""
+        return [number for number in self.cells[page] if number is not None]
+
+    def of_kind(self, kind):
+        """The numbers of the pages of a kind, ascending."""
+        return [page for page in self.cells if self.kinds[page] == kind]
+
+    def give_back(self):
+        """Gives the pages without objects back and returns their numbers, ascending."""
+        bare = [page for page in self.cells if self.inhabitants(page) == []]
+        for page in bare:
+            del self.cells[page]
+            del self.kinds[page]
+        return bare
+
+    def twin(self):
+        """An independent shelf that is the same."""
+        other = Shelf()
+        other.kinds = dict(self.kinds)
+        other.cells = {page: list(self.cells[page]) for page in self.cells}
+        other.places = {number: self.places[number] for number in self.places}
+        other.made = self.made
+        return other

@@ -1,0 +1,104 @@
+"""The work at one script: its calls, and what runs within them."""
+from crossheaps.calls import Call
+from crossheaps.errors import Fault
+
+MOST_CALLS = 24
+MOST_ROWS = 10000
+
+
+class Work:
+    """A script that is running, one turn after the other.
+
+    `frames` has all that is running, the innermost one last: the script, calls, creations
+    and settlings; `calls` has the script and the calls alone. `word` and `row` tell the fault.
+    """
+
+    def __init__(self, heap, policy, procedures, code):
+        self.heap = heap
+        self.policy = policy
+        self.procedures = procedures
+        self.calls = [Call(code)]
+        self.frames = list(self.calls)
+        self.rows = 0
+        self.settles = 0
+        self.word = None
+        self.row = None
+
+    def is_going(self):
+        return len(self.frames) > 0
+
+    def turn(self):
+        """Lets the innermost frame go on; by a fault all calls end."""
+        try:
+            self.frames[-1].advance(self)
+        except Fault as fault:
+            self.word = fault.word
+            self.row = fault.row
+            while len(self.calls) > 0:
+                self.leave_call()
+            self.frames = []
+
+    def row_now(self):
+        return self.calls[-1].row_now()
+
+    def count_row(self):
+        if self.rows == MOST_ROWS:
+            raise Fault("long", self.row_now())
+        self.rows += 1
+
+    def need_depth(self):
+        if len(self.calls) > MOST_CALLS:
+            raise Fault("deep", self.row_now())
+
+    def call(self, procedure, values):
+        """Begins a call with these values."""
+        scope = {}
+        for name, value in zip(procedure.parameters, values):
+            self.heap.gain(value)
+            scope[name] = value
+        self.heap.end_step()
+        self.push_call(procedure, scope)
+
+    def close_first(self):
+        """Begins the closing call of the first object of the queue."""
+        self.need_depth()
+        heap = self.heap
+        thing = heap.objects[heap.line[0]]
+        procedure = self.procedures[thing.closing]
+        heap.tell_loss(("close", thing.number))
+        scope = {}
+        heap.take_first(scope, procedure.parameters[0])
+        self.push_call(procedure, scope)
+
+    def push_call(self, procedure, scope):
+        call = Call(procedure.code)
+        self.heap.scopes.append(scope)
+        self.calls.append(call)
+        self.frames.append(call)
+
+    def end_call(self):
+        self.leave_call()
+        self.frames.pop()
+
+    def leave_call(self):
+        """Drops the variables of the innermost call; those of the script stay."""
+        if len(self.calls) > 1:
+            scope = self.heap.scopes[-1]
+            for name in list(scope):
+                self.heap.unset(scope, name)
+            self.heap.scopes.pop()
+        self.calls.pop()
+
+    def push_making(self, making):
+        self.frames.append(making)
+
+    def end_making(self):
+        self.frames.pop()
+
+    def push_settling(self, settling):
+        self.settles += 1
+        self.frames.append(settling)
+
+    def end_settling(self):
+        self.settles -= 1
+        self.frames.pop()
