@@ -54,7 +54,7 @@ def free_rings(heap, closers):
     firsts = [number for number in closers if len(spread(heap, [number], met)) > 0]
     met = {}
     rings = {}
-    for head in reversed(firsts):
+    for head in reversed(list(firsts)):
         nodes = spread(heap, [head], met)
         if len(nodes) > 0:
             back = leading_back(heap, head, nodes)

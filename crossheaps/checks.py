@@ -30,7 +30,7 @@ def thing_named(work, name):
 
 
 def need_sort(work, thing, sort):
-    if thing.sort != sort:
+    if thing.kind != sort:
         raise Fault("sort", work.row_now())
 
 

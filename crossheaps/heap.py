@@ -258,9 +258,9 @@ class Heap:
         self.lose(value)
         self.step()
 
-    def new_thing(self, home, sort):
+    def new_thing(self, home, kind):
         """A new object that nothing holds yet."""
-        thing = Thing(self.fresh, home, sort)
+        thing = Thing(self.fresh, home, kind)
         self.fresh += 1
         self.objects[thing.number] = thing
         if home == "traced":

@@ -126,11 +126,11 @@ class Machine:
 
     def __getitem__(self, number):
         thing = self.thing_of(number, None)
-        if thing.sort == "record":
-            return (thing.home, thing.sort, tuple(thing.slots))
-        if thing.sort == "map":
-            return (thing.home, thing.sort, tuple(sorted(list(thing.entries.items()))))
-        return (thing.home, thing.sort, () if thing.target is None else (thing.target,))
+        if thing.kind == "record":
+            return (thing.home, thing.kind, tuple(thing.slots))
+        if thing.kind == "map":
+            return (thing.home, thing.kind, tuple(sorted(list(thing.entries.items()))))
+        return (thing.home, thing.kind, () if thing.target is None else (thing.target,))
 
     def __contains__(self, number):
         return is_integer(number) and number in self.heap.objects

@@ -13,10 +13,10 @@ class Thing:
     of True: the weak objects whose target this is, and the maps of which this is a key.
     """
 
-    def __init__(self, number, home, sort):
+    def __init__(self, number, home, kind):
         self.number = number
         self.home = home
-        self.sort = sort
+        self.kind = kind
         self.slots = []
         self.entries = {}
         self.target = None
@@ -75,7 +75,7 @@ def shown_value(value):
 
 def twin_of(thing):
     """An independent object that is the same."""
-    twin = Thing(thing.number, thing.home, thing.sort)
+    twin = Thing(thing.number, thing.home, thing.kind)
     twin.slots = list(thing.slots)
     twin.entries = dict(thing.entries)
     twin.target = thing.target

@@ -1,0 +1,153 @@
+"""Section 2 and the interface: errors, arguments, what is not changed."""
+import ast
+import copy
+import os
+import unittest
+
+from crossheaps import errors
+from crossheaps.machine import Machine
+from crossheaps.pages import emptied
+from crossheaps.scripts import check, read_script, show_script
+from tests.helpers import ANY, raised
+
+ERRORS = {
+    "BadRow": ["row"], "BadBlock": ["row"], "Twice": ["row"], "NoProcedure": ["row"],
+    "WrongCount": ["row"], "BadPolicy": ["word"], "Fault": ["word", "row"],
+    "NoObject": ["value"], "NoLink": ["value"], "TooMany": ["count"], "BadText": ["row"],
+    "NoMark": [], "BadLine": ["line"],
+}
+INTERFACE = {
+    "errors": ["HeapError"] + list(ERRORS),
+    "scripts": ["read_script", "show_script", "check"],
+    "machine": ["Machine"],
+    "pages": ["emptied"],
+}
+METHODS = ["__init__", "run", "told", "present", "variables", "queue", "candidates", "kept",
+           "cycle", "pages", "next_number", "__getitem__", "count_of", "age_of", "proxy_of",
+           "place_of", "__contains__", "__len__", "reach", "copy"]
+PACKAGE = os.path.join(os.path.dirname(os.path.dirname(os.path.abspath(__file__))), "crossheaps")
+
+
+def tree_of(name):
+    with open(os.path.join(PACKAGE, name + ".py"), encoding="ascii") as file:
+        return ast.parse(file.read())
+
+
+class TestErrors(unittest.TestCase):
+    def test_bases(self):
+        self.assertEqual(errors.HeapError.__bases__, (ValueError,))
+        for name in ERRORS:
+            self.assertEqual(getattr(errors, name).__bases__, (errors.HeapError,), name)
+
+    def test_no_other_errors(self):
+        there = [name for name, value in vars(errors).items() if isinstance(value, type)]
+        self.assertEqual(sorted(there), sorted(["HeapError"] + list(ERRORS)))
+
+    def test_any_value_by_position_and_by_name(self):
+        for name, words in ERRORS.items():
+            make = getattr(errors, name)
+            for value in ANY:
+                values = [value] + [7] * (len(words) - 1)
+                values = values[:len(words)]
+                named = dict(zip(words, values))
+                for error in (make(*values), make(**named)):
+                    self.assertEqual(vars(error), named)
+                    self.assertIsInstance(str(error), str)
+                    for word in words:
+                        self.assertIs(getattr(error, word), named[word])
+
+    def test_no_default_values(self):
+        for name, words in ERRORS.items():
+            if words:
+                with self.assertRaises(TypeError):
+                    getattr(errors, name)()
+        with self.assertRaises(TypeError):
+            errors.NoMark(1)
+
+
+class TestInterface(unittest.TestCase):
+    def test_defined_in_its_file(self):
+        for module, names in INTERFACE.items():
+            body = tree_of(module).body
+            defined = [node.name for node in body
+                       if isinstance(node, (ast.FunctionDef, ast.ClassDef))]
+            for name in names:
+                self.assertIn(name, defined, module)
+
+    def test_methods_in_the_class_itself(self):
+        for name in METHODS:
+            self.assertIn(name, vars(Machine))
+
+    def test_by_name(self):
+        rows = read_script(text="say 1\nsay 2")
+        self.assertEqual(rows, (("say", "1"), ("say", "2")))
+        self.assertEqual(show_script(rows=rows), "say 1\nsay 2")
+        self.assertIsNone(check(rows=rows))
+        self.assertEqual(emptied(pages=((3, 1, False), (5, 7, True)), moves=1), (3,))
+        machine = Machine(young=1, start=10000, pace=2, limit=None)
+        self.assertEqual(list(machine.run(text="say 1")), [("say", "1")])
+        self.assertEqual(machine.told(text="let a = record counted 0\nlet b = map traced"),
+                         (("page", 0, "young"),))
+        self.assertEqual(machine.count_of(number=0), 1)
+        self.assertEqual(machine.proxy_of(number=0), None)
+        self.assertEqual(machine.age_of(number=1), 0)
+        self.assertEqual(machine.place_of(number=1), (0, 0))
+        self.assertEqual(machine.reach(), (0, 1))
+        self.assertEqual(machine.copy().present, (0, 1))
+
+    def test_policy_by_name_alone(self):
+        with self.assertRaises(TypeError):
+            Machine(1)
+
+    def test_wrong_names(self):
+        for call in (lambda: read_script(script=""), lambda: emptied(pages=(), many=1),
+                     lambda: Machine(old=1), lambda: Machine().told(script="")):
+            with self.assertRaises(TypeError):
+                call()
+
+
+class TestNothingChanged(unittest.TestCase):
+    def test_any_values(self):
+        machine = Machine()
+        machine.told("let a = record counted 1\nlet t = map traced")
+        calls = [read_script, machine.told, machine.count_of, machine.age_of, machine.proxy_of,
+                 machine.place_of, lambda value: machine[value], lambda value: value in machine,
+                 lambda value: Machine(young=value), lambda value: Machine(limit=value)]
+        for value in ANY:
+            before = copy.deepcopy(value)
+            for call in calls:
+                raised(call, value)
+                self.assertEqual(value, before)
+        self.assertEqual(machine.present, (0, 1))
+
+    def test_rows_and_pages(self):
+        rows = read_script("proc p\nend\ndo p\nif 1 is 1\nelse\nend")
+        check(rows)
+        show_script(rows)
+        self.assertEqual(rows, read_script("proc p\nend\ndo p\nif 1 is 1\nelse\nend"))
+        pages = ((0, 3, False), (1, 2, False))
+        emptied(pages, 9)
+        self.assertEqual(pages, ((0, 3, False), (1, 2, False)))
+
+    def test_equal_calls(self):
+        machine = Machine()
+        machine.told("let a = record counted 1\nlet t = map traced\nt at a = t")
+        for _ in range(2):
+            self.assertEqual(machine.reach(), (0, 1))
+            self.assertEqual(machine[1], ("traced", "map", ((0, ("#", 1)),)))
+            self.assertEqual(machine.pages, ((0, "young", (1,) + (None,) * 7),))
+            self.assertEqual(emptied(((0, 3, False), (1, 2, False)), 9), (1,))
+
+    def test_what_is_returned_is_tuples(self):
+        machine = Machine()
+        events = machine.told("let a = record counted 1\nlet t = map traced\nt at a = t\nbegin")
+        for value in (events, machine.present, machine.variables, machine.queue, machine.kept,
+                      machine.candidates, machine.cycle, machine.pages, machine[0], machine[1],
+                      machine.place_of(1), machine.reach(), read_script("say 1"), emptied((), 0)):
+            self.assertIsInstance(value, tuple)
+        for event in events:
+            self.assertIsInstance(event, tuple)
+
+
+if __name__ == "__main__":
+    unittest.main()
