@@ -179,11 +179,11 @@ class Heap:
             del self.sweep.marks[number]
         if thing.home == "traced":
             self.shelf.take(number)
-        if thing.target is not None and thing.target in self.objects:
+        # What it names is there: targets are cleared, and entries removed, ahead of all frees.
+        if thing.target is not None:
             del self.objects[thing.target].weaks[number]
         for key in thing.entries:
-            if key in self.objects:
-                del self.objects[key].maps[number]
+            del self.objects[key].maps[number]
 
     def unproxy(self, thing):
         thing.proxy = None

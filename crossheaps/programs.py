@@ -12,7 +12,6 @@ class Code:
     """
 
     def __init__(self, rows, base):
-        self.rows = rows
         self.base = base
         self.statements = [statement_of(list(words)) for words in rows]
         self.partners = partners_of(rows)

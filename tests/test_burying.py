@@ -40,6 +40,12 @@ class TestOrder(unittest.TestCase):
             ("back", 0)))
         self.assertEqual(machine.candidates, (2,))
 
+    def test_weak_objects_ascending(self):
+        events, _ = behind((
+            "let a = record traced 0", "let b = record traced 0", "let w = weak counted b",
+            "let v = weak counted a", "let u = weak traced b", "drop a", "drop b"), "minor")
+        self.assertEqual(events[1:4], (("clear", 2), ("clear", 3), ("clear", 4)))
+
     def test_entries_by_map_then_key(self):
         events, _ = behind((
             "let m = map traced", "let n = map counted", "let a = record traced 0",
@@ -166,6 +172,26 @@ class TestRings(unittest.TestCase):
         events = machine.told("finalize\nrings 9")
         self.assertEqual(events, (("close", 2), ("say", "#2"), ("rings",), ("queue", 0),
                                   ("queue", 1), ("free", 2)))
+
+    def test_a_queued_object_that_loses_a_holder_is_a_candidate(self):
+        rows = ("let a = record counted 0 then bye", "let d = record counted 2", "d.0 = d",
+                "d.1 = a", "drop a", "drop d", "rings 0")
+        events, machine = behind(rows, "rings 9")
+        self.assertEqual(events, (("rings",), ("queue", 0), ("free", 1)))
+        self.assertEqual((machine.count_of(0), machine.candidates), (1, (0,)))
+
+    def test_an_object_that_waits_and_is_queued_does_not_fall(self):
+        rows = ("let m = map counted", "let t = record traced 0",
+                "let a = record counted 0 then bye", "m at t = a", "drop a", "drop t")
+        events, machine = behind(rows, "begin", "slice 9")
+        self.assertEqual(events, (("minor",), ("unkey", 0, 1), ("free", 1), ("queue", 2),
+                                  ("back", 0), ("begin",), ("finish",)))
+        rows = ("let m = map counted", "let t = record traced 0", "minor", "minor",
+                "let a = record counted 0 then bye", "m at t = a", "drop a", "drop t")
+        events, machine = behind(rows, "begin", "slice 9")
+        self.assertEqual(events, (("minor",), ("begin",), ("finish",), ("unkey", 0, 1),
+                                  ("queue", 2), ("free", 1), ("back", 1)))
+        self.assertEqual((machine.queue, machine.count_of(2)), ((2,), 1))
 
     def test_queued_counted_object_by_a_finish(self):
         rows = ("let a = record counted 1 then bye", "let t = record traced 1", "a.0 = t",

@@ -233,6 +233,14 @@ class TestFalls(unittest.TestCase):
         text = "let a = record counted 0\nlet a = weak counted a"
         self.assertEqual(told(text), (("clear", 1), ("free", 0)))
 
+    def test_replacing_an_entry(self):
+        machine = Machine()
+        text = lines("let m = map counted", "let v = record counted 0", "let w = record counted 0",
+                     "m at m = v", "drop v", "let u = w", "drop u", "m at m = w", "drop w")
+        self.assertEqual(machine.told(text), (("free", 1),))
+        self.assertEqual((machine.count_of(2), machine.candidates), (1, (2,)))
+        self.assertEqual(machine.told("m at m = 5"), (("free", 2),))
+
     def test_removing_an_entry_tells_nothing(self):
         text = lines("let m = map counted", "let k = record counted 0", "let v = record counted 0",
                      "m at k = v", "drop v", "m at k = none", "m at k = none")

@@ -378,6 +378,18 @@ class TestCopy(unittest.TestCase):
             self.assertEqual(ended(machine, text), ended(other, text))
             self.assertEqual(self.shown(machine), self.shown(other))
 
+    def test_in_the_middle_of_a_cycle(self):
+        machine = Machine()
+        machine.told("let a = map counted\nlet b = map traced\nbegin\nslice 1\nlet c = map traced")
+        other = machine.copy()
+        self.assertEqual((other.cycle, other.kept), ((2, 1), (0, 1)))
+        self.assertEqual(other.told("slice 1"), (("finish",),))
+        self.assertEqual(machine.cycle, (2, 1))
+        self.assertEqual(other.told("minor\nminor")[-2:], (("move", 2, 1, 1), ("back", 2)))
+        machine.told("drop b\nslice 1\nbegin\nslice 9")
+        self.assertEqual([page for page, _, _ in machine.copy().pages], [1])
+        self.assertEqual(machine.copy().told("let d = map traced"), (("page", 3, "young"),))
+
     def test_independent(self):
         machine = Machine()
         machine.told(self.TEXT)

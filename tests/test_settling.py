@@ -226,6 +226,17 @@ class TestPolicy(unittest.TestCase):
     def test_works_again_behind_the_settle(self):
         machine = begun("settle", "let a = map traced", young=1)
         self.assertEqual(machine.told("let b = map traced"), (("minor",),))
+        self.assertEqual(told("settle\nsettle\nlet a = map traced\nlet b = map traced", young=1),
+                         ROUND + ROUND + (("page", 0, "young"), ("minor",)))
+
+    def test_rests_until_all_settles_are_ended(self):
+        machine = begun("proc bye x", "let y = map traced", "settle", "let y = map traced",
+                        "let z = map traced", "end", "let a = record counted 0 then bye", "drop a",
+                        young=1)
+        events = machine.told("settle")
+        self.assertEqual(events[0], ("close", 0))
+        self.assertEqual(events.count(("minor",)), events.count(("begin",)))
+        self.assertEqual(machine.told("let a = map traced\nlet b = map traced")[-1], ("minor",))
 
     def test_numbers_are_given_behind_the_policy(self):
         machine = begun("proc bye x", "let G = record counted 0", "end",
