@@ -51,14 +51,18 @@ def free_rings(heap, closers):
     the last one first: what is still not met then is used by no other ring.
     """
     met = {}
-    firsts = [number for number in closers if len(spread(heap, [number], met)) > 0]
+    firsts = []
+    for number in closers:
+        if len(spread(heap, [number], met)) > 0:
+            firsts.append(number)
+    closing = {number: True for number in closers}
     met = {}
     rings = {}
     for head in reversed(list(firsts)):
         nodes = spread(heap, [head], met)
         if len(nodes) > 0:
             back = leading_back(heap, head, nodes)
-            rings[head] = [number for number in closers if number in back]
+            rings[head] = sorted([number for number in back if number in closing])
     return [rings[head] for head in sorted(list(rings))]
 
 

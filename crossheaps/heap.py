@@ -60,7 +60,7 @@ class Heap:
             thing.count += 1
 
     def lose(self, value):
-        """Counts one less; objects that are freed together may have lost each other already."""
+        """Counts one less, unless the object was freed ahead of its holder in the same step."""
         if not is_object(value) or value[1] not in self.objects:
             return
         thing = self.objects[value[1]]
