@@ -5,9 +5,10 @@ from crossheaps.heap import Sweep
 from crossheaps.pages import emptied
 from crossheaps.things import OLD, is_old, is_young, references_of
 
+# Burying removes idle proxies below these ages; no proxy gets older than OLD.
 NO_PROXIES = 0
-YOUNG_PROXIES = OLD
-ALL_PROXIES = OLD + 1
+YOUNG_PROXIES = 2
+ALL_PROXIES = 3
 
 
 def minor(heap, years):

@@ -7,7 +7,6 @@ SMALL = "abcdefghijklmnopqrstuvwxyz"
 LARGE = "ABCDEFGHIJKLMNOPQRSTUVWXYZ"
 DIGITS = "0123456789"
 HOMES = ("counted", "traced")
-LEAST_VALUE = -1000000000
 MOST_VALUE = 1000000000
 MOST_NUMBER = 10000
 MOST_SLOT = 5
@@ -51,7 +50,7 @@ def number_of(word, most):
 
 def is_whole(word):
     if word[:1] == "-":
-        return word != "-0" and number_of(word[1:], -LEAST_VALUE) is not None
+        return word != "-0" and number_of(word[1:], MOST_VALUE) is not None
     return number_of(word, MOST_VALUE) is not None
 
 
