@@ -203,5 +203,7 @@ FORMS = {
 
 def statement_of(words):
     """The statement that a list of words is, None if it has no form."""
-    form = FORMS.get(words[0], store_form)
+    if words[0] not in FORMS:
+        return store_form(words)
+    form = FORMS[words[0]]
     return form(words)
