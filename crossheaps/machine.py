@@ -25,13 +25,17 @@ class Machine:
         self.procedures = {}
         self.heap = Heap()
 
-    def run(self, text):
-        """The events of a script, each one given when it happens."""
+    def begun(self, text):
+        """The work at a script that nothing is done of yet."""
         rows = read_script(text)
         examine(rows, {name: len(self.procedures[name].parameters) for name in self.procedures})
         for procedure in procedures_of(rows):
             self.procedures[procedure.name] = procedure
-        work = Work(self.heap, self.policy, self.procedures, Code(rows, 0))
+        return Work(self.heap, self.policy, self.procedures, Code(rows, 0))
+
+    def run(self, text):
+        """The events of a script, each one given when it happens."""
+        work = self.begun(text)
         while work.is_going():
             work.turn()
             for event in work.heap.taken():

@@ -41,6 +41,8 @@ class Making:
         """Asks the policy, which may settle first; then creates the object."""
         if not self.is_asked:
             self.is_asked = True
+            if work.gauge is not None:
+                work.gauge.measure(work.heap)
             if work.settles == 0:
                 collect_ahead(work, self.source[1])
                 if is_full(work):

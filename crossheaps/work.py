@@ -11,6 +11,7 @@ class Work:
 
     `frames` has all that is running, the innermost one last: the script, calls, creations
     and settlings; `calls` has the script and the calls alone. `word` and `row` tell the fault.
+    A `gauge`, if there is one, measures the heap ahead of each creation.
     """
 
     def __init__(self, heap, policy, procedures, code):
@@ -23,6 +24,7 @@ class Work:
         self.settles = 0
         self.word = None
         self.row = None
+        self.gauge = None
 
     def is_going(self):
         return len(self.frames) > 0
@@ -37,6 +39,13 @@ class Work:
             while len(self.calls) > 0:
                 self.leave_call()
             self.frames = []
+
+    def finish(self):
+        """Runs the script to its end."""
+        while self.is_going():
+            self.turn()
+        if self.word is not None:
+            raise Fault(self.word, self.row)
 
     def row_now(self):
         return self.calls[-1].row_now()

@@ -240,3 +240,91 @@ def block_rows(random, size, procs, depth):
                                     f"let {name} = map counted", f"{name} at {other} = {name}",
                                     f"pin {name}", f"unpin {name}"])]
     return rows
+
+
+# What the names of plain scripts hold, if anything.
+SORTED = {"record": ["a", "b", "c", "Hat"], "map": ["m", "n"], "whole": ["i", "j"]}
+
+
+class PlainMaker:
+    """Makes scripts without weak objects and closing procedures, most of which end well.
+
+    Each name holds a record of two slots, a map or an integer. What is read from slots and
+    entries is only used behind a test.
+    """
+
+    def __init__(self, random):
+        self.random = random
+
+    def script(self, size):
+        """Procedures are called by the script, and by those ahead of them."""
+        rows = self.begun([]) + self.rows(size, ["pone", "ptwo"], 0)
+        for name, names, others in (("pone", ["a", "m"], ["ptwo"]), ("ptwo", ["b"], [])):
+            rows += [" ".join(["proc", name] + names)] + self.begun(names)
+            rows += self.rows(5, others, 1) + ["end"]
+        return "\n".join(rows)
+
+    def begun(self, there):
+        """Rows that set the other names; now and then one is left out."""
+        names = [name for sort in SORTED for name in SORTED[sort] if name not in there]
+        self.random.shuffle(names)
+        if self.random.random() < 0.1:
+            names.pop()
+        return [self.fresh(name) for name in names if name != "Hat" or not there]
+
+    def fresh(self, name):
+        home = self.random.choice(["counted", "traced"])
+        if name in SORTED["whole"]:
+            return f"let {name} = {self.random.randint(-3, 3)}"
+        return f"let {name} = " + (f"map {home}" if name in SORTED["map"] else f"record {home} 2")
+
+    def name(self, sort):
+        return self.random.choice(SORTED[sort])
+
+    def rows(self, size, procs, depth):
+        rows = []
+        for _ in range(self.random.randint(0, size)):
+            kind = self.random.random()
+            if kind < 0.3 and depth < 4:
+                rows += self.block(procs, depth)
+            elif kind < 0.4 and procs:
+                name = self.random.choice(procs)
+                rows += [f"do {name} {self.name('record')}"
+                         + (f" {self.name('map')}" if name == "pone" else "")]
+            else:
+                rows += self.simple()
+        return rows
+
+    def block(self, procs, depth):
+        random = self.random
+        body = self.rows(3, procs, depth + 1)
+        if random.random() < 0.5:
+            return [f"repeat {random.randint(0, 3)}"] + body + ["end"]
+        left, right = random.choice([(self.name("record"), self.name("record")), ("1", "1"),
+                                     ("1", "2"), (self.name("whole"), "0")])
+        rest = ["else"] + self.rows(3, procs, depth + 1) if random.random() < 0.5 else []
+        return [f"if {left} is {right}"] + body + rest + ["end"]
+
+    def simple(self):
+        random = self.random
+        sort = random.choice(["record", "record", "record", "map", "whole"])
+        name = self.name(sort)
+        record, owner = self.name("record"), self.name("map")
+        kind = random.random()
+        if kind < 0.25:
+            return [self.fresh(name)]
+        if kind < 0.35:
+            return [f"let {name} = {self.name(sort)}"]
+        if kind < 0.5:
+            return [f"{record}.{random.randint(0, 1)} = {random.choice([name, record, 'none'])}"]
+        if kind < 0.6:
+            return [f"{owner} at {record} = {name}"]
+        if kind < 0.7:
+            return [f"let t = {random.choice([record + '.0', owner + ' at ' + record])}",
+                    "if t is none", "say 1", "else", "say t", "end"]
+        if kind < 0.85:
+            return [f"say {name}"]
+        if kind < 0.9:
+            return [f"drop {name}", self.fresh(name)]
+        return [random.choice([f"hold {record}", f"pin {owner}", "minor", "rings 3", "begin",
+                               "slice 2", "compact 3", "settle"])]

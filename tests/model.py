@@ -193,6 +193,10 @@ class Model:
         self.procs = {}
         self.events = []
         self.settling = 0
+        # Where these are lists, they get how many objects are reachable ahead of each statement,
+        # and ahead of each creation.
+        self.reached = None
+        self.made = None
 
     # State, as the properties of a machine show it.
 
@@ -573,6 +577,11 @@ class Run:
     def fault(self, word):
         raise Wrong("Fault", word, self.row)
 
+    def note(self, found):
+        """Notes how many objects are reachable, if this is asked for."""
+        if found is not None:
+            found.append(len(self.model.reach(self.model.roots())))
+
     def scope(self, name):
         return self.model.scopes[0] if name[0].isupper() else self.model.scopes[-1]
 
@@ -618,6 +627,7 @@ class Run:
             if self.done == 10000:
                 self.fault("long")
             self.done += 1
+            self.note(self.model.reached)
         if words[0] == "if":
             return self.choice(rows, at)
         if words[0] == "repeat":
@@ -718,6 +728,7 @@ class Run:
             return
         if rest[0] == "weak":
             self.things(self.value(rest[2]))
+        self.note(self.model.made)
         self.model.policy(self, rest[1])
         target = self.things(self.value(rest[2]))[0] if rest[0] == "weak" else None
         self.create(words[1], rest, target)

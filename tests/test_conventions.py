@@ -1,13 +1,19 @@
 """Section 2 and the interface: errors, arguments, what is not changed."""
 import ast
 import copy
+import importlib
+import inspect
 import os
 import unittest
 
 from crossheaps import errors
+from crossheaps.deaths import dies_with, dies_without, growth, keepers
+from crossheaps.lean import lean, least_limit
 from crossheaps.machine import Machine
 from crossheaps.pages import emptied
+from crossheaps.reasons import cost, reason, shows_reason
 from crossheaps.scripts import check, read_script, show_script
+from crossheaps.snapshots import alive, is_snapshot, links, snapshot
 from tests.helpers import ANY, raised
 
 ERRORS = {
@@ -21,7 +27,22 @@ INTERFACE = {
     "scripts": ["read_script", "show_script", "check"],
     "machine": ["Machine"],
     "pages": ["emptied"],
+    "lean": ["lean", "least_limit"],
+    "snapshots": ["is_snapshot", "snapshot", "alive", "links"],
+    "reasons": ["cost", "reason", "shows_reason"],
+    "deaths": ["dies_with", "dies_without", "keepers", "growth"],
 }
+# Their parameters, as the document writes them.
+PARAMETERS = {
+    "lean": "(rows)", "least_limit": "(text)", "is_snapshot": "(value)", "snapshot": "(machine)",
+    "alive": "(snapshot)", "links": "(snapshot)", "cost": "(snapshot, number)",
+    "reason": "(snapshot, number)", "shows_reason": "(snapshot, number, value)",
+    "dies_with": "(snapshot, *numbers)", "dies_without": "(snapshot, *given)",
+    "keepers": "(snapshot, number)", "growth": "(first, second)", "emptied": "(pages, moves)",
+    "read_script": "(text)", "show_script": "(rows)", "check": "(rows)",
+}
+SNAP = ((("x", 0), ("y", 1)), ((0, "traced", "map", ((1, 2),)), (1, "counted", "record", ()),
+                               (2, "counted", "record", ())))
 METHODS = ["__init__", "run", "told", "present", "variables", "queue", "candidates", "kept",
            "cycle", "pages", "next_number", "__getitem__", "count_of", "age_of", "proxy_of",
            "place_of", "__contains__", "__len__", "reach", "copy"]
@@ -95,6 +116,33 @@ class TestInterface(unittest.TestCase):
         self.assertEqual(machine.reach(), (0, 1))
         self.assertEqual(machine.copy().present, (0, 1))
 
+    def test_parameters(self):
+        for module, names in INTERFACE.items():
+            for name in names:
+                if name in PARAMETERS:
+                    there = getattr(importlib.import_module("crossheaps." + module), name)
+                    self.assertEqual(str(inspect.signature(there)), PARAMETERS[name])
+
+    def test_snapshots_by_name(self):
+        machine = Machine()
+        machine.told("let a = map counted")
+        self.assertEqual(snapshot(machine=machine), ((("a", 0),), ((0, "counted", "map", ()),)))
+        self.assertEqual([alive(snapshot=SNAP), links(snapshot=SNAP), is_snapshot(value=SNAP)],
+                         [(0, 1, 2), (("entry", 0, 1), ("root", "x"), ("root", "y")), True])
+        self.assertEqual(cost(number=2, snapshot=SNAP), 3)
+        pairs = reason(number=0, snapshot=SNAP)
+        self.assertEqual(pairs, ((0, ("root", "x")),))
+        self.assertIs(shows_reason(value=pairs, number=0, snapshot=SNAP), True)
+        self.assertEqual(dies_with(SNAP, 0, 1), (0, 1, 2))
+        self.assertEqual(dies_without(SNAP, ("root", "x")), (0, 2))
+        self.assertEqual(keepers(number=2, snapshot=SNAP), (0, 1, 2))
+        self.assertEqual(growth(second=SNAP, first=SNAP), ())
+        self.assertEqual(lean(rows=read_script("let a = 1")), (("let", "a", "=", "1"), ("drop", "a")))
+        self.assertEqual(least_limit(text="let a = map traced"), 1)
+        for call in (dies_with, dies_without):
+            with self.assertRaises(TypeError):
+                call(SNAP, number=0)
+
     def test_policy_by_name_alone(self):
         with self.assertRaises(TypeError):
             Machine(1)
@@ -110,7 +158,13 @@ class TestNothingChanged(unittest.TestCase):
     def test_any_values(self):
         machine = Machine()
         machine.told("let a = record counted 1\nlet t = map traced")
-        calls = [read_script, machine.told, machine.count_of, machine.age_of, machine.proxy_of,
+        shot = snapshot(machine)
+        kept = copy.deepcopy(shot)
+        calls = [is_snapshot, least_limit, lambda value: cost(shot, value),
+                 lambda value: reason(shot, value), lambda value: shows_reason(shot, 0, value),
+                 lambda value: dies_with(shot, 0, value), lambda value: keepers(shot, value),
+                 lambda value: dies_without(shot, ("root", "a"), value),
+                 read_script, machine.told, machine.count_of, machine.age_of, machine.proxy_of,
                  machine.place_of, lambda value: machine[value], lambda value: value in machine,
                  lambda value: Machine(young=value), lambda value: Machine(limit=value)]
         for value in ANY:
@@ -119,11 +173,13 @@ class TestNothingChanged(unittest.TestCase):
                 raised(call, value)
                 self.assertEqual(value, before)
         self.assertEqual(machine.present, (0, 1))
+        self.assertEqual([shot, snapshot(machine)], [kept, kept])
 
     def test_rows_and_pages(self):
         rows = read_script("proc p\nend\ndo p\nif 1 is 1\nelse\nend")
         check(rows)
         show_script(rows)
+        lean(rows)
         self.assertEqual(rows, read_script("proc p\nend\ndo p\nif 1 is 1\nelse\nend"))
         pages = ((0, 3, False), (1, 2, False))
         emptied(pages, 9)
@@ -137,13 +193,19 @@ class TestNothingChanged(unittest.TestCase):
             self.assertEqual(machine[1], ("traced", "map", ((0, ("#", 1)),)))
             self.assertEqual(machine.pages, ((0, "young", (1,) + (None,) * 7),))
             self.assertEqual(emptied(((0, 3, False), (1, 2, False)), 9), (1,))
+            self.assertEqual(least_limit("let a = map counted\nlet b = a"), 1)
+            self.assertEqual(snapshot(machine), snapshot(machine.copy()))
+            self.assertEqual(reason(SNAP, 2), reason(SNAP, 2))
 
     def test_what_is_returned_is_tuples(self):
         machine = Machine()
         events = machine.told("let a = record counted 1\nlet t = map traced\nt at a = t\nbegin")
         for value in (events, machine.present, machine.variables, machine.queue, machine.kept,
                       machine.candidates, machine.cycle, machine.pages, machine[0], machine[1],
-                      machine.place_of(1), machine.reach(), read_script("say 1"), emptied((), 0)):
+                      machine.place_of(1), machine.reach(), read_script("say 1"), emptied((), 0),
+                      snapshot(machine), *snapshot(machine), alive(SNAP), links(SNAP),
+                      *links(SNAP), reason(SNAP, 2), *reason(SNAP, 2), dies_with(SNAP, 0),
+                      dies_without(SNAP), keepers(SNAP, 2), growth(SNAP, SNAP), lean(())):
             self.assertIsInstance(value, tuple)
         for event in events:
             self.assertIsInstance(event, tuple)

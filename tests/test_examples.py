@@ -1,7 +1,7 @@
-"""Every example of sections 4 to 12 of the document, word for word."""
+"""Every example of sections 4 to 16 of the document, word for word."""
 import unittest
 
-SECTIONS = [4, 4, 4, 5, 5, 5, 6, 6, 7, 8, 9, 10, 10, 11, 11, 12, 12]
+SECTIONS = [4, 4, 4, 5, 5, 5, 6, 6, 7, 8, 9, 10, 10, 11, 11, 12, 12, 13, 13, 14, 14, 15, 16, 16]
 
 EXAMPLES = r"""
 ## 4
@@ -89,6 +89,47 @@ raises Fault(word='slot', row=1)
 >>> events = machine.told('let a = record traced 0\nminor\nminor')
 >>> machine.pages
 ((1, 'old', (0, None, None, None, None, None, None, None)),)
+## 13
+>>> from crossheaps.lean import lean, least_limit
+>>> from crossheaps.scripts import read_script, show_script
+>>> text = 'let a = record counted 0\nsay a\nlet b = record counted 0\nsay b'
+>>> slim = show_script(lean(read_script(text)))
+>>> [slim.split('\n'), least_limit(text), least_limit(slim)]
+[['let a = record counted 0', 'say a', 'drop a', 'let b = record counted 0', 'say b', 'drop b'], 2, 1]
+## 13
+>>> from crossheaps.lean import lean
+>>> from crossheaps.scripts import read_script, show_script
+>>> lines = 'let a = 1\nif a is 1\nsay 2\nelse\nsay 3\nend\nlet b = 5\nrepeat 2\nsay b\nend'
+>>> show_script(lean(read_script(lines))).split('\n')
+['let a = 1', 'if a is 1', 'drop a', 'say 2', 'else', 'drop a', 'say 3', 'end', 'let b = 5', 'repeat 2', 'say b', 'end', 'drop b']
+## 14
+>>> from crossheaps.machine import Machine
+>>> from crossheaps.snapshots import snapshot
+>>> machine = Machine()
+>>> told = machine.told('let m = map traced\nlet k = record counted 1\nlet v = record traced 0\nm at k = v\ndrop v\nhold k\npin m')
+>>> snapshot(machine)
+((('hold 1', 1), ('k', 1), ('m', 0), ('pin 0', 0)), ((0, 'traced', 'map', ((1, 2),)), (1, 'counted', 'record', ()), (2, 'traced', 'record', ())))
+## 14
+>>> from crossheaps.snapshots import alive, links
+>>> SHOT = ((('m', 0),), ((0, 'traced', 'map', ((0, 1), (1, 2), (2, 3))), (1, 'counted', 'record', ((5, 0),)), (2, 'traced', 'record', ()), (3, 'traced', 'weak', (2,))))
+>>> [alive(SHOT), links(SHOT)]
+[(0, 1, 2, 3), (('entry', 0, 0), ('entry', 0, 1), ('entry', 0, 2), ('root', 'm'), ('slot', 1, 5))]
+## 15
+>>> from crossheaps.reasons import cost, reason, shows_reason
+>>> SNAP = ((('x', 0), ('y', 1)), ((0, 'traced', 'map', ((1, 2),)), (1, 'counted', 'record', ()), (2, 'counted', 'record', ())))
+>>> [cost(SNAP, 0), cost(SNAP, 2), reason(SNAP, 1), shows_reason(SNAP, 2, ((1, ('root', 'y')), (0, ('root', 'x')), (2, ('entry', 0, 1))))]
+[1, 3, ((1, ('root', 'y')),), True]
+## 16
+>>> from crossheaps.deaths import dies_with, dies_without, growth, keepers
+>>> SHOT = ((('k', 1), ('m', 0)), ((0, 'traced', 'map', ((1, 2),)), (1, 'counted', 'record', ()), (2, 'traced', 'record', ((0, 3),)), (3, 'counted', 'record', ())))
+>>> FIRST = ((('k', 1), ('m', 0)), ((0, 'traced', 'map', ()), (1, 'counted', 'record', ())))
+>>> [dies_with(SHOT, 1), dies_with(SHOT, 2), dies_without(SHOT, ('root', 'm')), keepers(SHOT, 3), growth(FIRST, SHOT)]
+[(1, 2, 3), (2, 3), (0, 2, 3), (0, 1, 2, 3), ((2, 0), (2, 1))]
+## 16
+>>> from crossheaps.deaths import dies_without
+>>> SHOT = ((('k', 1), ('m', 0)), ((0, 'traced', 'map', ((1, 2),)), (1, 'counted', 'record', ()), (2, 'traced', 'record', ((0, 3),)), (3, 'counted', 'record', ())))
+>>> dies_without(SHOT, ('root', 'k'), ('slot', 2, 1))
+raises NoLink(value=('slot', 2, 1))
 """
 
 

@@ -11,6 +11,7 @@ BARRED = {"register", "mro", "elements", "open", "input", "law", "eval", "exec",
 NOT_STORED = {"items", "keys", "values", "pop", "update", "append", "clear", "extend", "insert",
               "remove", "reverse", "setdefault", "sort", "args", "encode", "decode", "hex",
               "format"}
+LIBRARY = {"heapq": ("heappush", "heappop")}
 
 
 def sources():
@@ -45,7 +46,9 @@ class TestForm(unittest.TestCase):
                 self.assertNotIsInstance(node, ast.Import, name)
                 if isinstance(node, ast.ImportFrom):
                     self.assertEqual(node.level, 0, name)
-                    self.assertTrue(node.module.startswith("crossheaps."), name)
+                    library = LIBRARY.get(node.module, ())
+                    self.assertTrue(node.module.startswith("crossheaps.")
+                                    or all(part.name in library for part in node.names), name)
                     self.assertTrue(all(part.asname is None for part in node.names), name)
 
     def test_names(self):
