@@ -1,38 +1,83 @@
-"""What the statements do that are no blocks."""
-from crossheaps.checks import answer, need_held, need_slot, need_sort
-from crossheaps.checks import thing_named, things_of, value_at, values_of
+"""What the statements do that are no blocks.
+
+An action returns True if something else is to go on ahead of the next statement.
+"""
+from crossheaps.checks import entry_answer, need_held, need_slot, need_sort
+from crossheaps.checks import slot_answer, thing_named, thing_of, value_at, weak_answer
 from crossheaps.collect import begin, compact, go_on, minor, rings
-from crossheaps.making import Making, Settling
+from crossheaps.making import Making, Settling, create, target_of
 from crossheaps.things import shown_value
 
-MADE = ("record", "weak", "map")
+
+def let_value(work, statement):
+    work.heap.assign(statement[1], value_at(work, statement[2]))
 
 
-def do_let(work, statement):
-    name = statement[1]
-    source = statement[2]
-    if source[0] not in MADE:
-        value = answer(work, source)
-        work.heap.assign(work.heap.scope_of(name), name, value)
-        return
-    if source[0] == "weak":
-        thing_named(work, source[2])
-    work.push_making(Making(name, source))
+def let_slot(work, statement):
+    work.heap.assign(statement[1], slot_answer(work, statement))
+
+
+def let_get(work, statement):
+    work.heap.assign(statement[1], weak_answer(work, statement))
+
+
+def let_at(work, statement):
+    work.heap.assign(statement[1], entry_answer(work, statement))
+
+
+def say(work, value):
+    work.heap.tell(("say", shown_value(value)))
+
+
+def say_value(work, statement):
+    say(work, value_at(work, statement[2]))
+
+
+def say_slot(work, statement):
+    say(work, slot_answer(work, statement))
+
+
+def say_get(work, statement):
+    say(work, weak_answer(work, statement))
+
+
+def say_at(work, statement):
+    say(work, entry_answer(work, statement))
+
+
+def do_tell(work, statement):
+    work.heap.tell(statement[1])
+
+
+def do_make(work, statement):
+    target = target_of(work, statement)
+    if work.gauge is not None:
+        work.gauge.measure(work.heap)
+    if work.settles == 0 and work.has_policy:
+        work.frames.append(Making(statement))
+        return True
+    create(work, statement, target)
+    return False
 
 
 def do_store(work, statement):
-    values = values_of(work, [statement[1], statement[3]])
-    thing = things_of(work, values[:1])[0]
-    need_sort(work, thing, "record")
-    need_slot(work, thing, statement[2])
-    work.heap.store(thing, statement[2], values[1])
+    _, name, slot, word = statement
+    value = value_at(work, name)
+    stored = value_at(work, word)
+    thing = thing_of(work, value)
+    need_slot(work, thing, slot)
+    work.heap.store(thing, slot, stored)
 
 
 def do_enter(work, statement):
-    values = values_of(work, statement[1:])
-    owner, key = things_of(work, values[:2])
+    _, name, key_name, word = statement
+    value = value_at(work, name)
+    key_value = value_at(work, key_name)
+    stored = value_at(work, word)
+    owner = thing_of(work, value)
+    key = thing_of(work, key_value)
     need_sort(work, owner, "map")
-    work.heap.enter(owner, key.number, values[2])
+    work.heap.enter(owner, key.number, stored)
 
 
 def do_drop(work, statement):
@@ -60,14 +105,11 @@ def do_unpin(work, statement):
     work.heap.end_pin(thing)
 
 
-def do_say(work, statement):
-    value = answer(work, statement[1])
-    work.heap.tell(("say", shown_value(value)))
-
-
 def do_call(work, statement):
     work.need_depth()
-    work.call(work.procedures[statement[1]], values_of(work, statement[2]))
+    values = [value_at(work, word) for word in statement[2]]
+    work.call(work.procedures[statement[1]], values)
+    return True
 
 
 def do_minor(work, _):
@@ -91,16 +133,35 @@ def do_compact(work, statement):
 
 
 def do_finalize(work, _):
-    if len(work.heap.line) > 0:
-        work.close_first()
+    if len(work.heap.line) == 0:
+        return False
+    work.close_first()
+    return True
 
 
 def do_settle(work, _):
     work.push_settling(Settling(work.heap.losses))
+    return True
 
 
+# Those of blocks hang on where these end.
 ACTIONS = {
-    "let": do_let,
+    "if": None,
+    "else": None,
+    "repeat": None,
+    "proc": None,
+    "end": None,
+    "let value": let_value,
+    "let slot": let_slot,
+    "let get": let_get,
+    "let at": let_at,
+    "make": do_make,
+    "close": do_make,
+    "say value": say_value,
+    "say slot": say_slot,
+    "say get": say_get,
+    "say at": say_at,
+    "tell": do_tell,
     "store": do_store,
     "enter": do_enter,
     "drop": do_drop,
@@ -108,7 +169,6 @@ ACTIONS = {
     "release": do_release,
     "pin": do_pin,
     "unpin": do_unpin,
-    "say": do_say,
     "do": do_call,
     "minor": do_minor,
     "rings": do_rings,

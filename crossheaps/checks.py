@@ -1,14 +1,13 @@
-"""What statements look at ahead of all that they do, and what they read."""
+"""What statements look at ahead of all that they do, and what they read.
+
+In a statement that tells or assigns what is there, this is named from its third part on.
+"""
 from crossheaps.errors import Fault
-from crossheaps.things import is_object, object_value
-
-
-def values_of(work, words):
-    """The values of names, integers and None."""
-    return [value_at(work, word) for word in words]
+from crossheaps.things import object_value
 
 
 def value_at(work, word):
+    """The value of a variable, or the integer or None that stands in its place."""
     if not isinstance(word, str):
         return word
     scope = work.heap.scope_of(word)
@@ -17,16 +16,16 @@ def value_at(work, word):
     return scope[word]
 
 
-def things_of(work, values):
-    """The objects that the values are."""
-    for value in values:
-        if not is_object(value):
-            raise Fault("object", work.row_now())
-    return [work.heap.objects[value[1]] for value in values]
+def thing_of(work, value):
+    """The object that the value is."""
+    if not isinstance(value, tuple):
+        raise Fault("object", work.row_now())
+    return work.heap.objects[value[1]]
 
 
 def thing_named(work, name):
-    return things_of(work, [value_at(work, name)])[0]
+    """The object that a variable holds."""
+    return thing_of(work, value_at(work, name))
 
 
 def need_sort(work, thing, sort):
@@ -35,6 +34,7 @@ def need_sort(work, thing, sort):
 
 
 def need_slot(work, thing, slot):
+    need_sort(work, thing, "record")
     if slot >= len(thing.slots):
         raise Fault("slot", work.row_now())
 
@@ -44,26 +44,14 @@ def need_held(work, many):
         raise Fault("held", work.row_now())
 
 
-def answer(work, source):
-    """What a source that makes no object gives."""
-    if source[0] == "value":
-        return value_at(work, source[1])
-    if source[0] == "slot":
-        return slot_answer(work, source[1], source[2])
-    if source[0] == "get":
-        return weak_answer(work, source[1])
-    return entry_answer(work, source[1], source[2])
+def slot_answer(work, statement):
+    thing = thing_named(work, statement[2])
+    need_slot(work, thing, statement[3])
+    return thing.slots[statement[3]]
 
 
-def slot_answer(work, name, slot):
-    thing = thing_named(work, name)
-    need_sort(work, thing, "record")
-    need_slot(work, thing, slot)
-    return thing.slots[slot]
-
-
-def weak_answer(work, name):
-    thing = thing_named(work, name)
+def weak_answer(work, statement):
+    thing = thing_named(work, statement[2])
     need_sort(work, thing, "weak")
     if thing.target is None:
         return None
@@ -71,7 +59,10 @@ def weak_answer(work, name):
     return object_value(thing.target)
 
 
-def entry_answer(work, name, key):
-    owner, found = things_of(work, values_of(work, [name, key]))
+def entry_answer(work, statement):
+    value = value_at(work, statement[2])
+    key = value_at(work, statement[3])
+    owner = thing_of(work, value)
+    found = thing_of(work, key)
     need_sort(work, owner, "map")
     return owner.entries.get(found.number)

@@ -5,7 +5,7 @@ procedure ends at the point ahead of its else or end, and begins at the one behi
 row. A set of variables is an integer with a bit for each of them.
 """
 from crossheaps.forms import is_local
-from crossheaps.programs import partners_of
+from crossheaps.scripts import partners_in
 
 # Where the words begin that use variables.
 USES = {"let": 3, "do": 2}
@@ -23,7 +23,7 @@ class Flow:
         self.rows = rows
         self.names = local_names(rows)
         self.bits = {name: 1 << at for at, name in enumerate(self.names)}
-        partners = partners_of(rows)
+        partners = partners_in(rows)
         self.ways = [ways_of(rows, partners, at) for at in range(len(rows))]
         self.sure = self.begun()
         self.live = [0] * (len(rows) + 1)

@@ -1,128 +1,129 @@
 """The forms of the rows of scripts.
 
-A value in a statement is None, an integer, or the name of a variable (a string).
+A statement is a tuple: what it does, and what it needs for that. A value in a statement is None,
+an integer, or the name of a variable (a string).
 """
 
-SMALL = "abcdefghijklmnopqrstuvwxyz"
-LARGE = "ABCDEFGHIJKLMNOPQRSTUVWXYZ"
-DIGITS = "0123456789"
 HOMES = ("counted", "traced")
 MOST_VALUE = 1000000000
 MOST_NUMBER = 10000
-MOST_SLOT = 5
-MOST_SLOTS = 6
+SLOTS = {"0": 0, "1": 1, "2": 2, "3": 3, "4": 4, "5": 5}
+SIZES = {"0": 0, "1": 1, "2": 2, "3": 3, "4": 4, "5": 5, "6": 6}
 MOST_PARAMETERS = 4
 MOST_LETTERS = 8
-TAKEN = (
-    "none", "get", "at", "is", "then", "record", "weak", "map", "counted", "traced",
-    "let", "drop", "hold", "release", "pin", "unpin", "say", "if", "else", "end",
-    "repeat", "proc", "do", "minor", "rings", "begin", "slice", "compact", "finalize", "settle",
-)
+MOST_DIGITS = 10
+TAKEN = {
+    "none": True, "get": True, "at": True, "is": True, "then": True, "record": True, "weak": True,
+    "map": True, "counted": True, "traced": True, "let": True, "drop": True, "hold": True,
+    "release": True, "pin": True, "unpin": True, "say": True, "if": True, "else": True,
+    "end": True, "repeat": True, "proc": True, "do": True, "minor": True, "rings": True,
+    "begin": True, "slice": True, "compact": True, "finalize": True, "settle": True,
+}
 
 
 def is_name(word):
-    if not 1 <= len(word) <= MOST_LETTERS or word in TAKEN:
+    if len(word) > MOST_LETTERS or word in TAKEN:
         return False
-    if word[0] not in SMALL and word[0] not in LARGE:
-        return False
-    return all([letter in SMALL for letter in word[1:]])
-
-
-def is_global(name):
-    return name[0] in LARGE
+    # A word of letters is a title if just the first one is a capital.
+    return word.isalpha() and word.isascii() and (word.islower() or word.istitle())
 
 
 def is_local(word):
-    return is_name(word) and not is_global(word)
+    return is_name(word) and word.islower()
 
 
 def number_of(word, most):
     """The number from 0 to most that the word is, None if it is none."""
     # The length comes first: the language refuses to read very long numbers.
-    if not 1 <= len(word) <= len(str(most)):
-        return None
-    if any([sign not in DIGITS for sign in word]):
+    if len(word) > MOST_DIGITS or not word.isdigit() or not word.isascii():
         return None
     if word[0] == "0" and word != "0":
         return None
-    return int(word) if int(word) <= most else None
-
-
-def is_whole(word):
-    if word[:1] == "-":
-        return word != "-0" and number_of(word[1:], MOST_VALUE) is not None
-    return number_of(word, MOST_VALUE) is not None
-
-
-def is_value(word):
-    return word == "none" or is_name(word) or is_whole(word)
+    number = int(word)
+    return number if number <= most else None
 
 
 def value_of(word):
+    """The value that the word is, False if it is none."""
     if word == "none":
         return None
-    return word if is_name(word) else int(word)
+    if word.isalpha():
+        return word if is_name(word) else False
+    if word.startswith("-"):
+        number = number_of(word[1:], MOST_VALUE)
+        return False if number is None or number == 0 else -number
+    number = number_of(word, MOST_VALUE)
+    return False if number is None else number
 
 
 def slot_of(word):
     """The pair (name, slot) of a word such as y.0, None for another word."""
-    parts = word.split(".")
-    if len(parts) != 2 or not is_name(parts[0]):
-        return None
-    slot = number_of(parts[1], MOST_SLOT)
-    return None if slot is None else (parts[0], slot)
+    name, _, slot = word.partition(".")
+    return (name, SLOTS[slot]) if slot in SLOTS and is_name(name) else None
 
 
-def told_source(words):
-    """What stands behind `say`, and may stand behind `let X =`."""
-    if len(words) == 1:
-        place = slot_of(words[0])
-        if place is not None:
-            return ("slot", place[0], place[1])
-        return ("value", value_of(words[0])) if is_value(words[0]) else None
+def word_form(verb, name, word):
+    """`let X = ..` or `say ..` of a value or a slot."""
+    value = value_of(word)
+    if value is not False:
+        return (verb + " value", name, value)
+    place = slot_of(word)
+    return None if place is None else (verb + " slot", name, place[0], place[1])
+
+
+def asked_form(verb, name, words):
+    """`let X = ..` or `say ..` of what a weak object or a map answers."""
     if len(words) == 2 and words[0] == "get" and is_name(words[1]):
-        return ("get", words[1])
+        return (verb + " get", name, words[1])
     if len(words) == 3 and words[1] == "at" and is_name(words[0]) and is_name(words[2]):
-        return ("at", words[0], words[2])
+        return (verb + " at", name, words[0], words[2])
     return None
 
 
-def record_source(words):
-    if len(words) not in (3, 5) or words[1] not in HOMES:
+def record_form(words):
+    if len(words) not in (6, 8) or words[4] not in HOMES or words[5] not in SIZES:
         return None
-    many = number_of(words[2], MOST_SLOTS)
-    if many is None:
+    if len(words) == 6:
+        return ("make", words[1], "record", words[4], SIZES[words[5]], None)
+    if words[6] != "then" or not is_local(words[7]):
         return None
-    if len(words) == 3:
-        return ("record", words[1], many, None)
-    if words[3] == "then" and is_local(words[4]):
-        return ("record", words[1], many, words[4])
-    return None
+    return ("close", words[1], "record", words[4], SIZES[words[5]], words[7])
 
 
-def made_source(words):
-    """A new object behind `let X =`."""
-    if words[0] == "record":
-        return record_source(words)
-    if words[0] == "weak" and len(words) == 3 and words[1] in HOMES and is_name(words[2]):
-        return ("weak", words[1], words[2])
-    if words[0] == "map" and len(words) == 2 and words[1] in HOMES:
-        return ("map", words[1])
-    return None
+def weak_form(words):
+    if len(words) != 6 or words[4] not in HOMES or not is_name(words[5]):
+        return None
+    return ("make", words[1], "weak", words[4], words[5])
+
+
+def map_form(words):
+    if len(words) != 5 or words[4] not in HOMES:
+        return None
+    return ("make", words[1], "map", words[4])
+
+
+MADE_FORMS = {"record": record_form, "weak": weak_form, "map": map_form}
 
 
 def let_form(words):
-    if len(words) < 4 or not is_name(words[1]) or words[2] != "=":
+    if len(words) < 4 or words[2] != "=" or not is_name(words[1]):
         return None
-    source = told_source(words[3:])
-    if source is None:
-        source = made_source(words[3:])
-    return None if source is None else ("let", words[1], source)
+    if len(words) == 4:
+        return word_form("let", words[1], words[3])
+    if words[3] not in MADE_FORMS:
+        return asked_form("let", words[1], words[3:])
+    form = MADE_FORMS[words[3]]
+    return form(words)
 
 
 def say_form(words):
-    source = told_source(words[1:])
-    return None if source is None else ("say", source)
+    if len(words) != 2:
+        return asked_form("say", None, words[1:])
+    statement = word_form("say", None, words[1])
+    if statement is None or isinstance(statement[2], str):
+        return statement
+    # None and integers are told as they are written.
+    return ("tell", ("say", words[1]))
 
 
 def name_form(words):
@@ -141,9 +142,11 @@ def bare_form(words):
 
 
 def if_form(words):
-    if len(words) != 4 or words[2] != "is" or not is_value(words[1]) or not is_value(words[3]):
+    if len(words) != 4 or words[2] != "is":
         return None
-    return ("if", value_of(words[1]), value_of(words[3]))
+    left = value_of(words[1])
+    right = value_of(words[3])
+    return None if left is False or right is False else ("if", left, right)
 
 
 def proc_form(words):
@@ -160,21 +163,25 @@ def proc_form(words):
 def do_form(words):
     if len(words) < 2 or not is_local(words[1]):
         return None
-    if not all([is_value(word) for word in words[2:]]):
+    values = tuple([value_of(word) for word in words[2:]])
+    if any([value is False for value in values]):
         return None
-    return ("do", words[1], tuple([value_of(word) for word in words[2:]]))
+    return ("do", words[1], values)
 
 
 def store_form(words):
     """A row that begins with no word of its own: `Y.I = V` or `Y at Z = V`."""
-    if len(words) == 3 and words[1] == "=" and is_value(words[2]):
+    if len(words) not in (3, 5) or words[-2] != "=":
+        return None
+    value = value_of(words[-1])
+    if value is False:
+        return None
+    if len(words) == 3:
         place = slot_of(words[0])
-        return None if place is None else ("store", place[0], place[1], value_of(words[2]))
-    if len(words) != 5 or words[1] != "at" or words[3] != "=":
+        return None if place is None else ("store", place[0], place[1], value)
+    if words[1] != "at" or not is_name(words[0]) or not is_name(words[2]):
         return None
-    if not is_name(words[0]) or not is_name(words[2]) or not is_value(words[4]):
-        return None
-    return ("enter", words[0], words[2], value_of(words[4]))
+    return ("enter", words[0], words[2], value)
 
 
 FORMS = {
@@ -202,8 +209,6 @@ FORMS = {
 
 
 def statement_of(words):
-    """The statement that a list of words is, None if it has no form."""
-    if words[0] not in FORMS:
-        return store_form(words)
-    form = FORMS[words[0]]
+    """The statement that the words of a row are, None if they have no form."""
+    form = FORMS.get(words[0], store_form)
     return form(words)

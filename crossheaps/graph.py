@@ -4,14 +4,11 @@ from crossheaps.things import is_object, references_of
 
 def roots_of(heap):
     """The numbers of the objects that variables, the queue, pins and holds hold."""
-    found = list(heap.line)
+    found = heap.line + list(heap.gripped)
     for scope in heap.scopes:
         for value in scope.values():
             if is_object(value):
                 found.append(value[1])
-    for number, thing in heap.objects.items():
-        if thing.pins > 0 or thing.holds > 0:
-            found.append(number)
     return found
 
 

@@ -1,8 +1,10 @@
-"""Both heaps with their counts, steps and falls."""
-from crossheaps.forms import is_global
+"""Both heaps with their counts, steps and falls.
+
+What is done for each row tests values for objects by isinstance, without a call of is_object.
+"""
 from crossheaps.graph import reach_of
 from crossheaps.pages import Shelf
-from crossheaps.things import Thing, closes, held_by, is_object, object_value, twin_of
+from crossheaps.things import Thing, closes, held_by, object_value, twin_of
 
 
 class Sweep:
@@ -18,9 +20,10 @@ class Heap:
     """The objects, and what holds them.
 
     `scopes` has the variables of the script, then those of each running call. `suspects` are
-    the candidates, `line` is the queue, `sweep` the running cycle. `before` has the counts that
-    changed in the current step, as they were ahead of it; `zeros` are counted objects whose
-    counts came to 0 and which wait for the next falls. `losses` counts what settle looks for.
+    the candidates, `line` is the queue, `sweep` the running cycle; `gripped` are the objects
+    with pins or holds. `lost` are the counted objects of which something let go in the current
+    step; `zeros` are those whose counts came to 0 and which wait for the next falls. `losses`
+    counts what settle looks for.
     """
 
     def __init__(self):
@@ -28,12 +31,13 @@ class Heap:
         self.scopes = [{}]
         self.line = []
         self.suspects = {}
+        self.gripped = {}
         self.sweep = None
         self.shelf = Shelf()
         self.fresh = 0
         self.events = []
         self.losses = 0
-        self.before = {}
+        self.lost = {}
         self.zeros = {}
 
     def tell(self, event):
@@ -50,49 +54,44 @@ class Heap:
         self.events.append(event)
         self.losses += 1
 
-    def gain(self, value):
-        """Counts one more that holds the value."""
-        if not is_object(value):
-            return
-        thing = self.objects[value[1]]
+    def gain(self, thing):
+        """Counts one more that holds the object."""
         if thing.home == "counted":
-            self.before.setdefault(thing.number, thing.count)
             thing.count += 1
 
-    def lose(self, value):
-        """Counts one less, unless the object was freed ahead of its holder in the same step."""
-        if not is_object(value) or value[1] not in self.objects:
-            return
-        thing = self.objects[value[1]]
-        if thing.home == "counted":
-            self.before.setdefault(thing.number, thing.count)
-            thing.count -= 1
+    def lose(self, number):
+        """Counts one less, unless the object was freed ahead of its holder in the same step.
 
-    def gain_in(self, holder, value):
-        """Counts a value that is stored into an object."""
+        In no step an object is both gained and lost: what would do that is left out.
+        """
+        thing = self.objects.get(number)
+        if thing is not None and thing.home == "counted":
+            thing.count -= 1
+            self.lost[number] = True
+
+    def gain_in(self, holder, number):
+        """Counts an object that is stored into another one."""
+        thing = self.objects[number]
         if holder.home == "counted":
-            self.gain(value)
-        elif is_object(value):
-            thing = self.objects[value[1]]
-            if thing.home == "counted" and thing.proxy is None:
-                self.gain(value)
-                thing.proxy = 0
+            self.gain(thing)
+        elif thing.home == "counted" and thing.proxy is None:
+            self.gain(thing)
+            thing.proxy = 0
 
     def lose_in(self, holder, value):
         """Counts a value that an object lets go; the proxies of traced holders stay."""
-        if holder.home == "counted":
-            self.lose(value)
+        if isinstance(value, tuple) and holder.home == "counted":
+            self.lose(value[1])
 
     def end_step(self):
         """What is behind each step, but for its falls."""
-        for number in sorted(list(self.before)):
+        for number in sorted(list(self.lost)):
             if number in self.objects:
-                count = self.objects[number].count
-                if count == 0:
+                if self.objects[number].count == 0:
                     self.zeros[number] = True
-                elif count < self.before[number]:
+                else:
                     self.suspects.setdefault(number, True)
-        self.before = {}
+        self.lost = {}
 
     def fallen(self):
         """The objects that join the falling list now, ascending."""
@@ -113,9 +112,10 @@ class Heap:
             at += 1
 
     def step(self):
-        """Ends a step with its falls."""
-        self.end_step()
-        self.fall()
+        """Ends a step with its falls; both come of losses alone."""
+        if len(self.lost) > 0:
+            self.end_step()
+            self.fall()
 
     def give_up(self, thing):
         """Clears and removes what stands by a falling object, then queues or frees it."""
@@ -148,7 +148,7 @@ class Heap:
     def enqueue(self, thing):
         thing.queued = True
         self.line.append(thing.number)
-        self.gain(object_value(thing.number))
+        self.gain(thing)
         self.tell_loss(("queue", thing.number))
         self.keep(thing.number)
 
@@ -187,76 +187,98 @@ class Heap:
 
     def unproxy(self, thing):
         thing.proxy = None
-        self.lose(object_value(thing.number))
+        self.lose(thing.number)
         self.tell_loss(("unproxy", thing.number))
 
     def scope_of(self, name):
-        """The variables among which a name is looked for."""
-        return self.scopes[0] if is_global(name) else self.scopes[-1]
+        """The variables among which a name is looked for; a global one has a capital."""
+        return self.scopes[-1] if name.islower() else self.scopes[0]
 
-    def assign(self, scope, name, value):
+    def assign(self, name, value):
         """The step of an assignment of a variable."""
-        self.gain(value)
+        scope = self.scope_of(name)
         old = scope.get(name)
         scope[name] = value
-        self.lose(old)
-        self.step()
+        if value == old:
+            return
+        if isinstance(value, tuple):
+            self.gain(self.objects[value[1]])
+        if isinstance(old, tuple):
+            self.lose(old[1])
+            self.step()
+
+    def add_variable(self, scope, name, value):
+        """Gives a parameter its value."""
+        scope[name] = value
+        if isinstance(value, tuple):
+            self.gain(self.objects[value[1]])
 
     def unset(self, scope, name):
         """The step of a drop."""
-        value = scope[name]
-        del scope[name]
-        self.lose(value)
-        self.step()
+        value = scope.pop(name)
+        if isinstance(value, tuple):
+            self.lose(value[1])
+            self.step()
 
     def store(self, holder, slot, value):
         """The step of an assignment of a slot."""
-        self.gain_in(holder, value)
         old = holder.slots[slot]
+        if value == old:
+            return
         holder.slots[slot] = value
+        if isinstance(value, tuple):
+            self.gain_in(holder, value[1])
         self.lose_in(holder, old)
         self.step()
 
     def enter(self, owner, key, value):
         """The step of an assignment of an entry."""
-        if value is not None:
-            self.gain_in(owner, value)
-            old = owner.entries.get(key)
+        old = owner.entries.get(key)
+        if value == old:
+            return
+        if value is None:
+            self.cut_entry(owner, key)
+        else:
             owner.entries[key] = value
             self.objects[key].maps[owner.number] = True
+            if isinstance(value, tuple):
+                self.gain_in(owner, value[1])
             self.lose_in(owner, old)
-        elif key in owner.entries:
-            self.cut_entry(owner, key)
         self.step()
 
     def add_hold(self, thing):
         thing.holds += 1
-        self.gain(object_value(thing.number))
-        self.step()
+        self.grip(thing)
 
     def end_hold(self, thing):
         thing.holds -= 1
-        self.lose(object_value(thing.number))
-        self.step()
+        self.let_go(thing)
 
     def add_pin(self, thing):
         thing.pins += 1
-        self.gain(object_value(thing.number))
-        self.step()
+        self.grip(thing)
 
     def end_pin(self, thing):
         thing.pins -= 1
-        self.lose(object_value(thing.number))
+        self.let_go(thing)
+
+    def grip(self, thing):
+        """Counts one more pin or hold."""
+        self.gripped[thing.number] = True
+        self.gain(thing)
+
+    def let_go(self, thing):
+        """The step in which a pin or a hold ends."""
+        if thing.pins == 0 and thing.holds == 0:
+            del self.gripped[thing.number]
+        self.lose(thing.number)
         self.step()
 
     def take_first(self, scope, name):
         """The step in which the first object of the queue becomes a parameter of its call."""
-        value = object_value(self.line[0])
+        # It is held by the parameter instead, so that its count stays.
+        scope[name] = object_value(self.line[0])
         self.line = self.line[1:]
-        self.gain(value)
-        scope[name] = value
-        self.lose(value)
-        self.step()
 
     def new_thing(self, home, kind):
         """A new object that nothing holds yet."""
@@ -276,9 +298,10 @@ class Heap:
             place = (page, 0)
         self.shelf.put(thing.number, place)
 
-    def aim(self, weak, target):
-        weak.target = target
-        self.objects[target].weaks[weak.number] = True
+    def aim(self, weak, thing):
+        """Gives a new weak object its target."""
+        weak.target = thing.number
+        thing.weaks[weak.number] = True
 
     def twin(self):
         """An independent heap that is the same, outside of a run."""
@@ -287,6 +310,7 @@ class Heap:
         other.scopes = [dict(scope) for scope in self.scopes]
         other.line = list(self.line)
         other.suspects = dict(self.suspects)
+        other.gripped = dict(self.gripped)
         if self.sweep is not None:
             other.sweep = Sweep(self.sweep.first, dict(self.sweep.marks))
             other.sweep.done = self.sweep.done

@@ -2,7 +2,8 @@
 from crossheaps.flows import Flow
 from crossheaps.graph import reach_of, roots_of
 from crossheaps.machine import Machine
-from crossheaps.programs import OPENERS
+
+OPENERS = ("if", "repeat", "proc")
 
 
 def lean(rows):

@@ -2,16 +2,12 @@
 from crossheaps.errors import BadPolicy, Fault, NoObject
 from crossheaps.graph import reach_of, roots_of
 from crossheaps.heap import Heap
-from crossheaps.programs import Code, procedures_of
-from crossheaps.scripts import examine, read_script
+from crossheaps.programs import Procedure, steps_of
+from crossheaps.scripts import examine, statements_of
 from crossheaps.things import is_integer
 from crossheaps.work import Work
 
 MOST_POLICY = 10000
-
-
-def is_policy(value):
-    return value is None or (is_integer(value) and 1 <= value <= MOST_POLICY)
 
 
 class Machine:
@@ -20,18 +16,22 @@ class Machine:
     def __init__(self, *, young=None, start=None, pace=None, limit=None):
         self.policy = {"young": young, "start": start, "pace": pace, "limit": limit}
         for word, value in self.policy.items():
-            if not is_policy(value):
+            if value is not None and not (is_integer(value) and 1 <= value <= MOST_POLICY):
                 raise BadPolicy(word)
         self.procedures = {}
         self.heap = Heap()
 
     def begun(self, text):
         """The work at a script that nothing is done of yet."""
-        rows = read_script(text)
-        examine(rows, {name: len(self.procedures[name].parameters) for name in self.procedures})
-        for procedure in procedures_of(rows):
-            self.procedures[procedure.name] = procedure
-        return Work(self.heap, self.policy, self.procedures, Code(rows, 0))
+        statements = statements_of(text)
+        known = {name: len(self.procedures[name].parameters) for name in self.procedures}
+        partners = examine(statements, known)
+        steps = steps_of(statements, partners)
+        for at in partners:
+            statement = statements[at]
+            if statement[0] == "proc":
+                self.procedures[statement[1]] = Procedure(statement[2], steps, at + 1)
+        return Work(self.heap, self.policy, self.procedures, steps)
 
     def run(self, text):
         """The events of a script, each one given when it happens."""
@@ -45,7 +45,8 @@ class Machine:
 
     def told(self, text):
         """Runs a script to its end and returns the tuple of its events."""
-        return tuple(self.run(text))
+        work = self.begun(text)
+        return tuple(work.finish())
 
     def copy(self):
         """An independent machine in the same state."""

@@ -30,28 +30,25 @@ class Settling:
 
 
 class Making:
-    """A creation that is running."""
+    """A creation that is running, ahead of which the policy works."""
 
-    def __init__(self, name, source):
-        self.name = name
-        self.source = source
+    def __init__(self, statement):
+        self.statement = statement
         self.is_asked = False
 
     def advance(self, work):
         """Asks the policy, which may settle first; then creates the object."""
         if not self.is_asked:
             self.is_asked = True
-            if work.gauge is not None:
-                work.gauge.measure(work.heap)
-            if work.settles == 0:
-                collect_ahead(work, self.source[1])
-                if is_full(work):
-                    work.push_settling(Settling(work.heap.losses))
-                    return
+            collect_ahead(work, self.statement[3])
+            if is_full(work):
+                work.push_settling(Settling(work.heap.losses))
+                return
         elif is_full(work):
             raise Fault("full", work.row_now())
-        create(work, self.name, self.source)
-        work.end_making()
+        # A closing call of the policy may have changed or dropped the variable.
+        create(work, self.statement, target_of(work, self.statement))
+        work.frames.pop()
 
 
 def collect_ahead(work, home):
@@ -76,16 +73,18 @@ def is_full(work):
     return limit is not None and len(work.heap.objects) >= limit
 
 
-def create(work, name, source):
+def create(work, statement, target):
+    """Creates an object and assigns it; the target is that of a weak object, or None."""
     heap = work.heap
-    target = None
-    if source[0] == "weak":
-        # A closing call of the policy may have changed or dropped the variable.
-        target = thing_named(work, source[2])
-    thing = heap.new_thing(source[1], source[0])
-    if source[0] == "record":
-        thing.slots = [None] * source[2]
-        thing.closing = source[3]
+    thing = heap.new_thing(statement[3], statement[2])
     if target is not None:
-        heap.aim(thing, target.number)
-    heap.assign(heap.scope_of(name), name, object_value(thing.number))
+        heap.aim(thing, target)
+    elif statement[2] == "record":
+        thing.slots = [None] * statement[4]
+        thing.closing = statement[5]
+    heap.assign(statement[1], object_value(thing.number))
+
+
+def target_of(work, statement):
+    """The object at which a new weak object aims, None for other objects."""
+    return thing_named(work, statement[4]) if statement[2] == "weak" else None

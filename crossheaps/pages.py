@@ -23,19 +23,23 @@ def emptied(pages, moves):
 
 
 class Shelf:
-    """The pages, and the place (page, cell) of each traced object."""
+    """The pages, and the place (page, cell) of each traced object.
+
+    `roomy` has, for each kind, the ascending numbers of the pages with free cells.
+    """
 
     def __init__(self):
         self.kinds = {}
         self.cells = {}
         self.places = {}
+        self.roomy = {"young": [], "old": []}
         self.made = 0
 
     def room(self, kind, barred):
         """The least free place of the pages of a kind that are not barred, None without one."""
-        for page, cells in self.cells.items():
-            if self.kinds[page] == kind and page not in barred and None in cells:
-                return (page, cells.index(None))
+        for page in self.roomy[kind]:
+            if page not in barred:
+                return (page, self.cells[page].index(None))
         return None
 
     def make(self, kind):
@@ -44,17 +48,25 @@ class Shelf:
         self.made += 1
         self.kinds[page] = kind
         self.cells[page] = [None] * CELLS
+        self.roomy[kind].append(page)
         return page
 
     def put(self, number, place):
+        page, cell = place
+        cells = self.cells[page]
         self.places[number] = place
-        self.cells[place[0]][place[1]] = number
+        cells[cell] = number
+        if None not in cells:
+            self.roomy[self.kinds[page]].remove(page)
 
     def take(self, number):
         """Frees the cell of an object."""
-        page, cell = self.places[number]
-        self.cells[page][cell] = None
-        del self.places[number]
+        page, cell = self.places.pop(number)
+        cells = self.cells[page]
+        if None not in cells:
+            kind = self.kinds[page]
+            self.roomy[kind] = sorted(self.roomy[kind] + [page])
+        cells[cell] = None
 
     def kind_of(self, number):
         """The kind of the page in which an object lies."""
@@ -70,8 +82,9 @@ class Shelf:
 
     def give_back(self):
         """Gives the pages without objects back and returns their numbers, ascending."""
-        bare = [page for page in self.cells if self.inhabitants(page) == []]
+        bare = [page for page, cells in self.cells.items() if cells.count(None) == CELLS]
         for page in bare:
+            self.roomy[self.kinds[page]].remove(page)
             del self.cells[page]
             del self.kinds[page]
         return bare
@@ -82,5 +95,6 @@ class Shelf:
         other.kinds = dict(self.kinds)
         other.cells = {page: list(self.cells[page]) for page in self.cells}
         other.places = {number: self.places[number] for number in self.places}
+        other.roomy = {kind: list(self.roomy[kind]) for kind in self.roomy}
         other.made = self.made
         return other

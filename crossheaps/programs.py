@@ -1,53 +1,45 @@
-"""Rows made ready to run."""
-from crossheaps.forms import statement_of
-
-OPENERS = ("if", "repeat", "proc")
-
-
-class Code:
-    """The statements of a script or of a procedure.
-
-    The first one is row `base` of its script. `partners` tells where a block goes on: an if
-    at its else or end, an else, repeat and proc at its end, an end at what it closes.
-    """
-
-    def __init__(self, rows, base):
-        self.base = base
-        self.statements = [statement_of(list(words)) for words in rows]
-        self.partners = partners_of(rows)
+"""Scripts made ready to run."""
+from crossheaps.actions import ACTIONS
+from crossheaps.calls import do_again, do_if, do_jump, do_nothing, do_repeat, do_return
 
 
 class Procedure:
-    """A procedure: its name, its parameters and its code."""
+    """A procedure: its parameters, the steps of its script, and the first one of its own."""
 
-    def __init__(self, name, parameters, code):
-        self.name = name
+    def __init__(self, parameters, steps, start):
         self.parameters = parameters
-        self.code = code
+        self.steps = steps
+        self.start = start
 
 
-def partners_of(rows):
-    partners = {}
-    blocks = []
-    for at, words in enumerate(rows):
-        if words[0] in OPENERS:
-            blocks.append(at)
-        elif words[0] == "else":
-            partners[blocks.pop()] = at
-            blocks.append(at)
-        elif words[0] == "end":
-            opener = blocks.pop()
-            partners[opener] = at
-            partners[at] = opener
-    return partners
+def steps_of(statements, partners):
+    """The steps of a script, one for each row and one that ends it.
+
+    A step is (whether it counts as a row that is done, an action, what the action is told).
+    """
+    steps = [(statement[0] != "drop", ACTIONS[statement[0]], statement)
+             for statement in statements]
+    for at in partners:
+        steps[at] = block_step(statements, partners, at)
+    steps.append((False, do_return, None))
+    return steps
 
 
-def procedures_of(rows):
-    """The procedures of rows that check accepts, in their order."""
-    found = []
-    partners = partners_of(rows)
-    for at, words in enumerate(rows):
-        if words[0] == "proc":
-            code = Code(rows[at + 1:partners[at]], at + 1)
-            found.append(Procedure(words[1], words[2:], code))
-    return found
+def block_step(statements, partners, at):
+    """The step of a row that begins, parts or ends a block."""
+    statement = statements[at]
+    partner = partners[at]
+    if statement[0] == "if":
+        return (True, do_if, (statement[1], statement[2], partner + 1))
+    if statement[0] == "repeat":
+        # An empty body is left out: it counts no rows, so that it could go on for long.
+        if statement[1] == 0 or partner == at + 1:
+            return (True, do_jump, partner + 1)
+        return (True, do_repeat, statement[1])
+    if statement[0] != "end":
+        return (False, do_jump, partner + 1)
+    if statements[partner][0] == "repeat":
+        return (False, do_again, partner + 1)
+    if statements[partner][0] == "proc":
+        return (False, do_return, None)
+    return (False, do_nothing, None)

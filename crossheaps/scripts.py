@@ -3,22 +3,33 @@ from crossheaps.errors import BadBlock, BadRow, NoProcedure, Twice, WrongCount
 from crossheaps.forms import statement_of
 
 MOST_BLOCKS = 8
-OPENERS = ("if", "repeat", "proc")
+# The statements that other rows may not fit.
+BOUND = {
+    "if": True, "else": True, "repeat": True, "proc": True, "end": True, "do": True, "close": True,
+}
 
 
 def read_script(text):
     """The rows of the text, each as the tuple of its words."""
-    if not isinstance(text, str):
-        raise BadRow(0)
+    statements_of(text)
     if text == "":
         return ()
-    rows = []
+    return tuple([tuple(line.split(" ")) for line in text.split("\n")])
+
+
+def statements_of(text):
+    """The statements of the rows of any value."""
+    if not isinstance(text, str):
+        raise BadRow(0)
+    found = []
+    if text == "":
+        return found
     for at, line in enumerate(text.split("\n")):
-        words = line.split(" ")
-        if statement_of(words) is None:
+        statement = statement_of(line.split(" "))
+        if statement is None:
             raise BadRow(at)
-        rows.append(tuple(words))
-    return tuple(rows)
+        found.append(statement)
+    return found
 
 
 def show_script(rows):
@@ -28,70 +39,96 @@ def show_script(rows):
 
 def check(rows):
     """Raises the error of the least row that does not fit the others."""
-    examine(rows, {})
+    partners_in(rows)
 
 
-def examine(rows, known):
-    """Checks rows beside known procedures: a dict from names to numbers of parameters."""
-    counts = counts_of(rows, known)
+def partners_in(rows):
+    """The partners of the rows of blocks, if check accepts the rows."""
+    return examine([statement_of(words) for words in rows], {})
+
+
+def examine(statements, known):
+    """Checks statements beside known procedures, a dict from names to numbers of parameters.
+
+    Returns the partners of blocks: where an if, else, repeat or proc has its else or end; and
+    for an end, what it ends: the else instead of an if that has one.
+    """
+    bound = [at for at, statement in enumerate(statements) if statement[0] in BOUND]
+    if len(bound) == 0:
+        return {}
+    counts = counts_of([statements[at] for at in bound], known)
     earlier = dict(known)
-    blocks = []
-    for at, words in enumerate(rows):
-        if not fits(words[0], blocks):
-            raise BadBlock(at)
-        if words[0] == "proc":
-            if words[1] in earlier:
-                raise Twice(at)
-            earlier[words[1]] = True
-        examine_call(at, words, counts)
-        turn_blocks(words[0], blocks)
-    if len(blocks) > 0:
-        raise BadBlock(len(rows))
+    blocks = Blocks()
+    for at in bound:
+        statement = statements[at]
+        if statement[0] == "do":
+            examine_call(at, statement[1], len(statement[2]), counts)
+        elif statement[0] == "close":
+            examine_call(at, statement[5], 1, counts)
+        else:
+            blocks.turn(at, statement[0])
+            if statement[0] == "proc":
+                examine_name(at, statement[1], earlier)
+    if len(blocks.words) > 0:
+        raise BadBlock(len(statements))
+    return blocks.partners
 
 
-def counts_of(rows, known):
+def counts_of(statements, known):
     """The numbers of parameters of all procedures; the earlier row of a name counts."""
     counts = dict(known)
-    for words in rows:
-        if words[0] == "proc":
-            counts.setdefault(words[1], len(words) - 2)
+    for statement in statements:
+        if statement[0] == "proc":
+            counts.setdefault(statement[1], len(statement[2]))
     return counts
 
 
-def fits(word, blocks):
-    """Whether a row with this first word may stand within these open blocks."""
-    if word == "end":
-        return len(blocks) > 0
-    if word == "else":
-        return len(blocks) > 0 and blocks[-1] == "if"
-    if word == "proc":
-        return len(blocks) == 0
-    if word in OPENERS:
-        return len(blocks) < MOST_BLOCKS
-    return True
+def examine_name(at, name, earlier):
+    """Adds the name of a procedure to the dict of earlier ones."""
+    if name in earlier:
+        raise Twice(at)
+    earlier[name] = True
 
 
-def turn_blocks(word, blocks):
-    """Opens or closes a block of the list; an if behind its else is an `else` there."""
-    if word in OPENERS:
-        blocks.append(word)
-    elif word == "else":
-        blocks[-1] = word
-    elif word == "end":
-        blocks.pop()
-
-
-def examine_call(at, words, counts):
-    """Checks the procedure that a row calls, or gives to a new record."""
-    if words[0] == "do":
-        name = words[1]
-        many = len(words) - 2
-    elif words[0] == "let" and words[-2] == "then":
-        name = words[-1]
-        many = 1
-    else:
-        return
+def examine_call(at, name, many, counts):
+    """Checks the procedure that a row calls, or gives to a new record, with so many values."""
     if name not in counts:
         raise NoProcedure(at)
     if counts[name] != many:
         raise WrongCount(at)
+
+
+class Blocks:
+    """The blocks that are open at a row, by their first words and rows, and the partners so far.
+
+    An if behind its else is an `else` there, with the row of this.
+    """
+
+    def __init__(self):
+        self.words = []
+        self.rows = []
+        self.partners = {}
+
+    def turn(self, at, word):
+        """Opens, parts or ends a block."""
+        if word == "end":
+            self.shut(at)
+        elif word == "else":
+            if len(self.words) == 0 or self.words[-1] != "if":
+                raise BadBlock(at)
+            self.partners[self.rows[-1]] = at
+            self.words[-1] = word
+            self.rows[-1] = at
+        elif len(self.words) == MOST_BLOCKS or (word == "proc" and len(self.words) > 0):
+            raise BadBlock(at)
+        else:
+            self.words.append(word)
+            self.rows.append(at)
+
+    def shut(self, at):
+        if len(self.words) == 0:
+            raise BadBlock(at)
+        self.words.pop()
+        opener = self.rows.pop()
+        self.partners[opener] = at
+        self.partners[at] = opener

@@ -3,23 +3,26 @@ from crossheaps.calls import Call
 from crossheaps.errors import Fault
 
 MOST_CALLS = 24
-MOST_ROWS = 10000
+MOST_EVENTS = 1000000
 
 
 class Work:
     """A script that is running, one turn after the other.
 
     `frames` has all that is running, the innermost one last: the script, calls, creations
-    and settlings; `calls` has the script and the calls alone. `word` and `row` tell the fault.
-    A `gauge`, if there is one, measures the heap ahead of each creation.
+    and settlings; `calls` has the script and the calls alone. A turn ends when `most` events
+    are told. `rows` counts the rows that are done. `word` and `row` tell the fault. A `gauge`,
+    if there is one, measures the heap ahead of each creation.
     """
 
-    def __init__(self, heap, policy, procedures, code):
+    def __init__(self, heap, policy, procedures, steps):
         self.heap = heap
         self.policy = policy
+        self.has_policy = list(policy.values()).count(None) < len(policy)
         self.procedures = procedures
-        self.calls = [Call(code)]
+        self.calls = [Call(steps, 0)]
         self.frames = list(self.calls)
+        self.most = 1
         self.rows = 0
         self.settles = 0
         self.word = None
@@ -30,9 +33,10 @@ class Work:
         return len(self.frames) > 0
 
     def turn(self):
-        """Lets the innermost frame go on; by a fault all calls end."""
+        """Goes on until enough is told, or to the end; by a fault all calls end."""
         try:
-            self.frames[-1].advance(self)
+            while len(self.frames) > 0 and len(self.heap.events) < self.most:
+                self.frames[-1].advance(self)
         except Fault as fault:
             self.word = fault.word
             self.row = fault.row
@@ -41,19 +45,18 @@ class Work:
             self.frames = []
 
     def finish(self):
-        """Runs the script to its end."""
+        """Runs the script to its end and returns its events."""
+        self.most = MOST_EVENTS
+        told = []
         while self.is_going():
             self.turn()
+            told.extend(self.heap.taken())
         if self.word is not None:
             raise Fault(self.word, self.row)
+        return told
 
     def row_now(self):
         return self.calls[-1].row_now()
-
-    def count_row(self):
-        if self.rows == MOST_ROWS:
-            raise Fault("long", self.row_now())
-        self.rows += 1
 
     def need_depth(self):
         if len(self.calls) > MOST_CALLS:
@@ -63,9 +66,7 @@ class Work:
         """Begins a call with these values."""
         scope = {}
         for name, value in zip(procedure.parameters, values):
-            self.heap.gain(value)
-            scope[name] = value
-        self.heap.end_step()
+            self.heap.add_variable(scope, name, value)
         self.push_call(procedure, scope)
 
     def close_first(self):
@@ -80,7 +81,7 @@ class Work:
         self.push_call(procedure, scope)
 
     def push_call(self, procedure, scope):
-        call = Call(procedure.code)
+        call = Call(procedure.steps, procedure.start)
         self.heap.scopes.append(scope)
         self.calls.append(call)
         self.frames.append(call)
@@ -97,12 +98,6 @@ class Work:
                 self.heap.unset(scope, name)
             self.heap.scopes.pop()
         self.calls.pop()
-
-    def push_making(self, making):
-        self.frames.append(making)
-
-    def end_making(self):
-        self.frames.pop()
 
     def push_settling(self, settling):
         self.settles += 1
