@@ -155,6 +155,15 @@ class TestShowsReason(unittest.TestCase):
                       (key, owner, (2, ("slot", 0, 1))), (key, owner, (1, ("entry", 0, 1)))):
             self.assertIs(shows_reason(SNAP, 2, pairs), False, pairs)
         self.assertIs(shows_reason(SNAP, 1, (owner, key)), False)
+        # Links that lead to another object than that of their pair.
+        for pairs in (((2, ("root", "y")),), (owner, (2, ("root", "y"))),
+                      (key, owner, (2, ("root", "x"))), ((0, ("root", "y")), (2, ("entry", 0, 0)))):
+            self.assertIs(shows_reason(SNAP, 2, pairs), False, pairs)
+        shot = ((("a", 0), ("b", 1)), ((0, "counted", "record", ((0, 2),)),
+                                       (1, "counted", "record", ((0, 2),)),
+                                       (2, "counted", "record", ())))
+        self.assertIs(shows_reason(shot, 2, ((1, ("root", "a")), (2, ("slot", 1, 0)))), False)
+        self.assertIs(shows_reason(shot, 2, ((1, ("root", "b")), (2, ("slot", 1, 0)))), True)
         self.assertIs(shows_reason(SNAP, 0, self.PAIRS), False)
 
     def test_each_pair_is_used(self):
