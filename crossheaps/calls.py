@@ -8,19 +8,21 @@ MOST_ROWS = 10000
 class Call:
     """A call that is running, or the script itself.
 
-    `ahead` is the step that comes next; `turns` has, for each repeat around it, how often its
-    body is still to be done, this time too.
+    `ahead` is the step that comes next; `shift` is how many more rows the script has ahead of
+    its steps; `turns` has, for each repeat around it, how often its body is still to be done,
+    this time too.
     """
 
-    def __init__(self, steps, ahead):
+    def __init__(self, steps, ahead, shift):
         self.steps = steps
         self.ahead = ahead
+        self.shift = shift
         self.turns = []
 
     def row_now(self):
         """The number of the current row in its own script."""
         # Only a step that can no longer fail goes elsewhere.
-        return self.ahead - 1
+        return self.ahead - 1 + self.shift
 
     def advance(self, work):
         """Does steps until enough is told, or until something else is to go on.

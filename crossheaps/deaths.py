@@ -1,6 +1,5 @@
 """Deaths: what dies with objects and without links, what keeps an object, what grows."""
-from crossheaps.errors import NoLink
-from crossheaps.nets import alive_arcs, arcs_of, is_link, met_by, need_objects
+from crossheaps.nets import alive_arcs, arcs_of, met_by, need_links, need_objects
 from crossheaps.snapshots import alive
 
 
@@ -15,10 +14,7 @@ def dies_with(snapshot, *numbers):
 def dies_without(snapshot, *given):
     """The ascending tuple of what is alive, but not without these links."""
     arcs = arcs_of(snapshot)
-    there = {link: True for link, _, _ in alive_arcs(arcs)}
-    for value in given:
-        if not is_link(value) or value not in there:
-            raise NoLink(value)
+    need_links(alive_arcs(arcs), given)
     gone = {link: True for link in given}
     return lost(arcs, [arc for arc in arcs if arc[0] not in gone])
 

@@ -32,15 +32,18 @@ def is_local(word):
     return is_name(word) and word.islower()
 
 
+def whole_of(word, digits):
+    """The number from 0 with at most so many digits that the word is, None if it is none."""
+    # The length comes first: the language refuses to read very long numbers.
+    if len(word) > digits or not word.isdigit() or not word.isascii():
+        return None
+    return None if word[0] == "0" and word != "0" else int(word)
+
+
 def number_of(word, most):
     """The number from 0 to most that the word is, None if it is none."""
-    # The length comes first: the language refuses to read very long numbers.
-    if len(word) > MOST_DIGITS or not word.isdigit() or not word.isascii():
-        return None
-    if word[0] == "0" and word != "0":
-        return None
-    number = int(word)
-    return number if number <= most else None
+    number = whole_of(word, MOST_DIGITS)
+    return None if number is None or number > most else number
 
 
 def value_of(word):

@@ -2,7 +2,7 @@
 from crossheaps.errors import BadPolicy, Fault, NoObject
 from crossheaps.graph import reach_of, roots_of
 from crossheaps.heap import Heap
-from crossheaps.programs import Procedure, steps_of
+from crossheaps.programs import procedures_in, steps_of
 from crossheaps.scripts import examine, statements_of
 from crossheaps.things import is_integer
 from crossheaps.work import Work
@@ -27,10 +27,7 @@ class Machine:
         known = {name: len(self.procedures[name].parameters) for name in self.procedures}
         partners = examine(statements, known)
         steps = steps_of(statements, partners)
-        for at in partners:
-            statement = statements[at]
-            if statement[0] == "proc":
-                self.procedures[statement[1]] = Procedure(statement[2], steps, at + 1)
+        self.procedures.update(procedures_in(text, statements, partners, steps))
         return Work(self.heap, self.policy, self.procedures, steps)
 
     def run(self, text):

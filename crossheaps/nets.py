@@ -2,7 +2,7 @@
 
 An arc is (link, sources, target): where all sources are alive, the link leads to the target.
 """
-from crossheaps.errors import NoObject
+from crossheaps.errors import NoLink, NoObject
 from crossheaps.things import is_integer
 
 
@@ -83,3 +83,11 @@ def need_objects(snapshot, values):
     for value in values:
         if not is_integer(value) or value not in there:
             raise NoObject(value)
+
+
+def need_links(arcs, values):
+    """Raises NoLink with the first value that is not the link of one of the arcs."""
+    there = {link: True for link, _, _ in arcs}
+    for value in values:
+        if not is_link(value) or value not in there:
+            raise NoLink(value)

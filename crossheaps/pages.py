@@ -51,6 +51,16 @@ class Shelf:
         self.roomy[kind].append(page)
         return page
 
+    def lay(self, page, kind, cells):
+        """Adds a page that is there already, behind those with lesser numbers."""
+        self.kinds[page] = kind
+        self.cells[page] = cells
+        for cell, number in enumerate(cells):
+            if number is not None:
+                self.places[number] = (page, cell)
+        if None in cells:
+            self.roomy[kind].append(page)
+
     def put(self, number, place):
         page, cell = place
         cells = self.cells[page]

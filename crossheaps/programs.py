@@ -4,12 +4,30 @@ from crossheaps.calls import do_again, do_if, do_jump, do_nothing, do_repeat, do
 
 
 class Procedure:
-    """A procedure: its parameters, the steps of its script, and the first one of its own."""
+    """A procedure: its parameters, the steps of its script, and the first one of its own.
 
-    def __init__(self, parameters, steps, start):
+    `lines` are its rows as they are written. Its script has `shift` more rows ahead of them
+    than the steps: none, but for the procedures of resumed machines.
+    """
+
+    def __init__(self, parameters, steps, start, lines):
         self.parameters = parameters
         self.steps = steps
         self.start = start
+        self.lines = lines
+        self.shift = 0
+
+
+def procedures_in(text, statements, partners, steps):
+    """The procedures of a script by their names."""
+    found = {}
+    lines = text.split("\n")
+    for at in partners:
+        statement = statements[at]
+        if statement[0] == "proc":
+            own = tuple(lines[at:partners[at] + 1])
+            found[statement[1]] = Procedure(statement[2], steps, at + 1, own)
+    return found
 
 
 def steps_of(statements, partners):

@@ -26,7 +26,7 @@ def reason(snapshot, number):
             pairs.append((other, link))
             for source in sources:
                 needed[source] = True
-    return tuple(reversed(pairs))
+    return tuple(reversed(list(pairs)))
 
 
 def shows_reason(snapshot, number, value):

@@ -20,7 +20,7 @@ class Work:
         self.policy = policy
         self.has_policy = list(policy.values()).count(None) < len(policy)
         self.procedures = procedures
-        self.calls = [Call(steps, 0)]
+        self.calls = [Call(steps, 0, 0)]
         self.frames = list(self.calls)
         self.most = 1
         self.rows = 0
@@ -81,7 +81,7 @@ class Work:
         self.push_call(procedure, scope)
 
     def push_call(self, procedure, scope):
-        call = Call(procedure.steps, procedure.start)
+        call = Call(procedure.steps, procedure.start, procedure.shift)
         self.heap.scopes.append(scope)
         self.calls.append(call)
         self.frames.append(call)

@@ -7,6 +7,8 @@ import os
 import unittest
 
 from crossheaps import errors
+from crossheaps.console import Console
+from crossheaps.cuts import evidence, fewest_cuts, shows_cut, shows_evidence
 from crossheaps.deaths import dies_with, dies_without, growth, keepers
 from crossheaps.lean import lean, least_limit
 from crossheaps.machine import Machine
@@ -14,6 +16,8 @@ from crossheaps.pages import emptied
 from crossheaps.reasons import cost, reason, shows_reason
 from crossheaps.scripts import check, read_script, show_script
 from crossheaps.snapshots import alive, is_snapshot, links, snapshot
+from crossheaps.states import resume, save
+from crossheaps.texts import read_snapshot, show_snapshot
 from tests.helpers import ANY, raised
 
 ERRORS = {
@@ -31,6 +35,10 @@ INTERFACE = {
     "snapshots": ["is_snapshot", "snapshot", "alive", "links"],
     "reasons": ["cost", "reason", "shows_reason"],
     "deaths": ["dies_with", "dies_without", "keepers", "growth"],
+    "cuts": ["fewest_cuts", "evidence", "shows_cut", "shows_evidence"],
+    "texts": ["show_snapshot", "read_snapshot"],
+    "states": ["save", "resume"],
+    "console": ["Console"],
 }
 # Their parameters, as the document writes them.
 PARAMETERS = {
@@ -40,6 +48,12 @@ PARAMETERS = {
     "dies_with": "(snapshot, *numbers)", "dies_without": "(snapshot, *given)",
     "keepers": "(snapshot, number)", "growth": "(first, second)", "emptied": "(pages, moves)",
     "read_script": "(text)", "show_script": "(rows)", "check": "(rows)",
+    "fewest_cuts": "(snapshot, victims, fixed=())", "evidence": "(snapshot, victims, fixed=())",
+    "shows_cut": "(snapshot, victims, fixed, value)",
+    "shows_evidence": "(snapshot, victims, fixed, count, value)",
+    "show_snapshot": "(snapshot)", "read_snapshot": "(text)", "save": "(machine)",
+    "resume": "(text)", "Console": "(*, young=None, start=None, pace=None, limit=None)",
+    "Machine": "(*, young=None, start=None, pace=None, limit=None)",
 }
 SNAP = ((("x", 0), ("y", 1)), ((0, "traced", "map", ((1, 2),)), (1, "counted", "record", ()),
                                (2, "counted", "record", ())))
@@ -98,6 +112,8 @@ class TestInterface(unittest.TestCase):
     def test_methods_in_the_class_itself(self):
         for name in METHODS:
             self.assertIn(name, vars(Machine))
+        for name in ("__init__", "say"):
+            self.assertIn(name, vars(Console))
 
     def test_by_name(self):
         rows = read_script(text="say 1\nsay 2")
@@ -143,9 +159,26 @@ class TestInterface(unittest.TestCase):
             with self.assertRaises(TypeError):
                 call(SNAP, number=0)
 
+    def test_cuts_texts_states_by_name(self):
+        victims, fixed = (2,), (("root", "x"),)
+        cut = fewest_cuts(SNAP, fixed=fixed, victims=victims)
+        self.assertEqual(cut, (("entry", 0, 1),))
+        parts = evidence(SNAP, victims, fixed=fixed)
+        self.assertIs(shows_cut(SNAP, victims, fixed=fixed, value=cut), True)
+        self.assertIs(shows_evidence(SNAP, victims, fixed, value=parts, count=1), True)
+        self.assertEqual(read_snapshot(text=show_snapshot(snapshot=SNAP)), SNAP)
+        machine = Machine(young=7)
+        machine.told("let a = map traced")
+        self.assertEqual(resume(text=save(machine=machine)).variables, machine.variables)
+        self.assertEqual(Console(limit=3, pace=None).say(line="run say 1"), "say 1")
+        for call in (shows_cut, shows_evidence):
+            with self.assertRaises(TypeError):
+                call(SNAP, victims)
+
     def test_policy_by_name_alone(self):
-        with self.assertRaises(TypeError):
-            Machine(1)
+        for make in (Machine, Console):
+            with self.assertRaises(TypeError):
+                make(1)
 
     def test_wrong_names(self):
         for call in (lambda: read_script(script=""), lambda: emptied(pages=(), many=1),
@@ -160,7 +193,12 @@ class TestNothingChanged(unittest.TestCase):
         machine.told("let a = record counted 1\nlet t = map traced")
         shot = snapshot(machine)
         kept = copy.deepcopy(shot)
+        console = Console()
         calls = [is_snapshot, least_limit, lambda value: cost(shot, value),
+                 lambda value: fewest_cuts(shot, (value,)), lambda value: evidence(shot, (), (value,)),
+                 lambda value: shows_cut(shot, (0,), (), value), read_snapshot, resume,
+                 lambda value: shows_evidence(shot, (0,), (), 1, value), console.say,
+                 lambda value: Console(pace=value),
                  lambda value: reason(shot, value), lambda value: shows_reason(shot, 0, value),
                  lambda value: dies_with(shot, 0, value), lambda value: keepers(shot, value),
                  lambda value: dies_without(shot, ("root", "a"), value),
@@ -174,6 +212,7 @@ class TestNothingChanged(unittest.TestCase):
                 self.assertEqual(value, before)
         self.assertEqual(machine.present, (0, 1))
         self.assertEqual([shot, snapshot(machine)], [kept, kept])
+        self.assertEqual(console.say("alive"), "-")
 
     def test_rows_and_pages(self):
         rows = read_script("proc p\nend\ndo p\nif 1 is 1\nelse\nend")
@@ -196,6 +235,9 @@ class TestNothingChanged(unittest.TestCase):
             self.assertEqual(least_limit("let a = map counted\nlet b = a"), 1)
             self.assertEqual(snapshot(machine), snapshot(machine.copy()))
             self.assertEqual(reason(SNAP, 2), reason(SNAP, 2))
+            self.assertEqual(evidence(SNAP, (2,)), evidence(SNAP, (2,)))
+            self.assertEqual(save(machine), save(machine.copy()))
+            self.assertEqual(save(resume(save(machine))), save(machine))
 
     def test_what_is_returned_is_tuples(self):
         machine = Machine()
@@ -205,7 +247,10 @@ class TestNothingChanged(unittest.TestCase):
                       machine.place_of(1), machine.reach(), read_script("say 1"), emptied((), 0),
                       snapshot(machine), *snapshot(machine), alive(SNAP), links(SNAP),
                       *links(SNAP), reason(SNAP, 2), *reason(SNAP, 2), dies_with(SNAP, 0),
-                      dies_without(SNAP), keepers(SNAP, 2), growth(SNAP, SNAP), lean(())):
+                      dies_without(SNAP), keepers(SNAP, 2), growth(SNAP, SNAP), lean(()),
+                      fewest_cuts(SNAP, (2,)), *fewest_cuts(SNAP, (2,)), evidence(SNAP, (2,)),
+                      *evidence(SNAP, (2,)), *evidence(SNAP, (2,))[0], evidence(SNAP, ()),
+                      read_snapshot(show_snapshot(SNAP)), *read_snapshot(show_snapshot(SNAP))):
             self.assertIsInstance(value, tuple)
         for event in events:
             self.assertIsInstance(event, tuple)

@@ -1,7 +1,8 @@
-"""Every example of sections 4 to 16 of the document, word for word."""
+"""Every example of sections 4 to 19 of the document, word for word."""
 import unittest
 
-SECTIONS = [4, 4, 4, 5, 5, 5, 6, 6, 7, 8, 9, 10, 10, 11, 11, 12, 12, 13, 13, 14, 14, 15, 16, 16]
+SECTIONS = [4, 4, 4, 5, 5, 5, 6, 6, 7, 8, 9, 10, 10, 11, 11, 12, 12, 13, 13, 14, 14, 15, 16, 16,
+            17, 17, 18, 18, 18, 19, 19]
 
 EXAMPLES = r"""
 ## 4
@@ -130,6 +131,46 @@ raises Fault(word='slot', row=1)
 >>> SHOT = ((('k', 1), ('m', 0)), ((0, 'traced', 'map', ((1, 2),)), (1, 'counted', 'record', ()), (2, 'traced', 'record', ((0, 3),)), (3, 'counted', 'record', ())))
 >>> dies_without(SHOT, ('root', 'k'), ('slot', 2, 1))
 raises NoLink(value=('slot', 2, 1))
+## 17
+>>> from crossheaps.cuts import evidence, fewest_cuts
+>>> SNAP = ((('x', 0), ('y', 1)), ((0, 'traced', 'map', ((1, 2),)), (1, 'counted', 'record', ()), (2, 'counted', 'record', ())))
+>>> [fewest_cuts(SNAP, (2,)), fewest_cuts(SNAP, (2,), (('entry', 0, 1),)), fewest_cuts(SNAP, (1, 2)), evidence(SNAP, (2,))]
+[(('entry', 0, 1),), (('root', 'x'),), (('root', 'y'),), (((('root', 'y'), ('entry', 0, 1)),), ((('root', 'x'), ('entry', 0, 1)),))]
+## 17
+>>> from crossheaps.cuts import evidence, fewest_cuts, shows_evidence
+>>> SNAP = ((('x', 0), ('y', 1)), ((0, 'traced', 'map', ((1, 2),)), (1, 'counted', 'record', ()), (2, 'counted', 'record', ())))
+>>> [fewest_cuts(SNAP, (2,), (('root', 'x'), ('root', 'y'), ('entry', 0, 1))), shows_evidence(SNAP, (2,), (), 2, evidence(SNAP, (2,)))]
+[None, False]
+## 18
+>>> from crossheaps.texts import read_snapshot, show_snapshot
+>>> SHOT = ((('k', 1), ('m', 0)), ((0, 'traced', 'map', ((1, 2),)), (1, 'counted', 'record', ()), (2, 'traced', 'record', ((0, 3),)), (3, 'counted', 'record', ())))
+>>> [show_snapshot(SHOT).split('\n'), read_snapshot(show_snapshot(SHOT)) == SHOT, read_snapshot('')]
+[['root k 1', 'root m 0', '0 traced map 1:2', '1 counted record', '2 traced record 0:3', '3 counted record'], True, ((), ())]
+## 18
+>>> from crossheaps.texts import read_snapshot
+>>> read_snapshot('root k 1\n1 counted record 0:2')
+raises BadText(row=2)
+## 18
+>>> from crossheaps.machine import Machine
+>>> from crossheaps.states import resume, save
+>>> machine = Machine()
+>>> begun = machine.told('proc bye x\nsay x\nend\nlet a = record counted 0 then bye\ndrop a')
+>>> other = resume(save(machine))
+>>> [begun, other.queue, other.told('finalize'), machine.present]
+[(('queue', 0),), (0,), (('close', 0), ('say', '#0'), ('free', 0)), (0,)]
+## 19
+>>> from crossheaps.console import Console
+>>> console = Console()
+>>> begun = console.say('run let a = record counted 1; let t = record traced 1; a.0 = t; t.0 = a; drop t')
+>>> [begun, console.say('why 1'), console.say('cut 1'), console.say('run drop a; rings 1; minor')]
+['page 0 young', '0<a 1<0.0', 'a', 'rings, minor']
+## 19
+>>> from crossheaps.console import Console
+>>> console = Console()
+>>> made = [console.say('run let a = record counted 2'), console.say('mark')]
+>>> more = console.say('run let b = map counted; let c = record counted 0; a.0 = b; a.1 = c; b at c = c; drop b; drop c')
+>>> [made, more, console.say('growth'), console.say('keepers 2'), console.say('why 2'), console.say('dies 1')]
+[['-', 'done'], '-', '2:0', '0 2', '0<a 2<0.1', '1']
 """
 
 

@@ -66,6 +66,18 @@ class TestForm(unittest.TestCase):
             for word in bound:
                 self.assertFalse(word in BARRED or hasattr(builtins, word), (name, word))
 
+    def test_reversed(self):
+        """Machine has __getitem__, so that reversed shows what it goes over."""
+        for name, text in sources().items():
+            for node in ast.walk(ast.parse(text)):
+                if isinstance(node, ast.Call) and isinstance(node.func, ast.Name) \
+                        and node.func.id == "reversed":
+                    given = node.args[0]
+                    shown = isinstance(given, (ast.List, ast.Tuple, ast.Constant)) or (
+                        isinstance(given, ast.Call) and isinstance(given.func, ast.Name)
+                        and given.func.id in ("list", "tuple", "sorted", "range"))
+                    self.assertTrue(shown, (name, node.lineno))
+
     def test_statements(self):
         barred = (ast.Global, ast.Lambda, ast.Set, ast.SetComp, ast.GeneratorExp, ast.AnnAssign,
                   ast.Div, ast.AsyncFunctionDef, ast.With)

@@ -1,4 +1,7 @@
-"""Section 20: the guarantees (a) to (g), (h) for copies, (j), over longer scripts."""
+"""Section 20: the guarantees (a) to (g), (h) for copies, (j), over longer scripts.
+
+Those of resumed machines, of lean scripts and of cuts stand with the tests of these.
+"""
 import random
 import unittest
 
