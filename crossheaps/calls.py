@@ -72,5 +72,6 @@ def do_again(work, ahead):
 
 
 def do_return(work, _):
-    work.end_call()
+    work.leave_call()
+    work.frames.pop()
     return True

@@ -10,10 +10,13 @@ def value_at(work, word):
     """The value of a variable, or the integer or None that stands in its place."""
     if not isinstance(word, str):
         return word
-    scope = work.heap.scope_of(word)
-    if word not in scope:
+    scopes = work.heap.scopes
+    # The innermost call has no global names, so that it may be asked first for all names.
+    if word in scopes[-1]:
+        return scopes[-1][word]
+    if word.islower() or word not in scopes[0]:
         raise Fault("unset", work.row_now())
-    return scope[word]
+    return scopes[0][word]
 
 
 def thing_of(work, value):

@@ -1,9 +1,9 @@
 """Minor collections, rings, cycles and the moving of traced objects."""
 from crossheaps.burial import bury
-from crossheaps.graph import reach_of, roots_of
+from crossheaps.graph import reach_of, roots_of, spread
 from crossheaps.heap import Sweep
 from crossheaps.pages import emptied
-from crossheaps.things import OLD, is_old, is_young, references_of
+from crossheaps.things import OLD, references_of
 
 # Burying removes idle proxies below these ages; no proxy gets older than OLD.
 NO_PROXIES = 0
@@ -21,31 +21,34 @@ def minor(heap, years):
 
 
 def minor_dead(heap):
+    if len(heap.young) == 0:
+        return []
     starts = roots_of(heap)
-    for number, thing in heap.objects.items():
-        if not is_young(thing):
-            starts.append(number)
+    starts.extend([number for number in heap.objects if number not in heap.young])
     reach = reach_of(heap, starts)
-    return [number for number, thing in heap.objects.items()
-            if is_young(thing) and number not in reach]
+    return [number for number in heap.young if number not in reach]
 
 
 def grow(heap, years):
-    for number, thing in heap.objects.items():
-        if thing.proxy is not None:
-            thing.proxy = min(OLD, thing.proxy + years)
-        if is_young(thing):
-            thing.age = min(OLD, thing.age + years)
-            if is_old(thing):
-                heap.tell(("old", number))
+    for number in heap.proxied:
+        thing = heap.objects[number]
+        thing.proxy = min(OLD, thing.proxy + years)
+    for number in list(heap.young):
+        thing = heap.objects[number]
+        thing.age = min(OLD, thing.age + years)
+        if thing.age == OLD:
+            del heap.young[number]
+            heap.tell(("old", number))
 
 
 def move_old(heap):
     """Moves the old objects that lie in young pages, but for pinned ones."""
     shelf = heap.shelf
-    movers = [number for number, thing in heap.objects.items()
-              if is_old(thing) and thing.pins == 0 and shelf.kind_of(number) == "young"]
-    for number in movers:
+    movers = []
+    for page in shelf.of_kind("young"):
+        movers.extend([number for number in shelf.inhabitants(page)
+                       if number not in heap.young and heap.objects[number].pins == 0])
+    for number in sorted(movers):
         move(heap, number, {})
 
 
@@ -105,39 +108,38 @@ def rings(heap, many):
     starts = list(heap.suspects)[:many]
     for number in starts:
         del heap.suspects[number]
-    group = group_of(heap, starts)
-    alive = supported(heap, group)
-    bury(heap, [number for number in sorted(group) if number not in alive], NO_PROXIES)
-
-
-def counted_from(heap, number):
-    """The counted objects to which an object has references, as often as it has them."""
-    return [other for other in references_of(heap.objects[number])
-            if heap.objects[other].home == "counted"]
+    leads = group_of(heap, starts)
+    alive = supported(heap, leads)
+    bury(heap, [number for number in sorted(list(leads)) if number not in alive], NO_PROXIES)
 
 
 def group_of(heap, starts):
-    """The counted objects to which starts lead through counted ones, they themselves too."""
-    found = []
-    met = {}
+    """The counted objects to which starts lead through counted ones, they themselves too.
+
+    For each of them those to which it has references, as often as it has them.
+    """
+    leads = {}
     ahead = list(starts)
     while len(ahead) > 0:
         number = ahead.pop()
-        if number not in met:
-            met[number] = True
-            found.append(number)
-            ahead.extend(counted_from(heap, number))
-    return found
+        if number not in leads:
+            leads[number] = [other for other in references_of(heap.objects[number])
+                             if heap.objects[other].home == "counted"]
+            ahead.extend(leads[number])
+    return leads
 
 
-def supported(heap, group):
+def supported(heap, leads):
     """The objects of the group that something beyond it holds, and what they lead to."""
-    inner = {number: 0 for number in group}
-    for number in group:
-        for other in counted_from(heap, number):
+    inner = {number: 0 for number in leads}
+    for others in leads.values():
+        for other in others:
             inner[other] += 1
-    starts = [number for number in group if heap.objects[number].count > inner[number]]
-    return {number: True for number in group_of(heap, starts)}
+    met = {}
+    for number in leads:
+        if number not in met and heap.objects[number].count > inner[number]:
+            spread(leads, number, met)
+    return met
 
 
 def compact(heap, moves):

@@ -1,13 +1,13 @@
 """Cuts: the fewest links without which victims die, and the evidence for that."""
 from crossheaps.errors import TooMany
-from crossheaps.nets import alive_arcs, arcs_of, is_link, met_by, need_links, need_objects
+from crossheaps.nets import is_link, need_links, need_objects, net_of, sources_of
 from crossheaps.snapshots import is_ascending
 from crossheaps.ways import START, Ways
 
 MOST_ENTRIES = 4
 MOST_LINKS = 120
-# The sides of an entry, in their order, by their places among what it needs.
-SIDES = {"key": 1, "map": 0}
+# The sides of an entry, in their order, and where they stand in it.
+SIDES = {"key": 2, "map": 1}
 
 
 def fewest_cuts(snapshot, victims, fixed=()):
@@ -62,58 +62,58 @@ def shows_evidence(snapshot, victims, fixed, count, value):
 class Cutting:
     """What is asked: the links, those that lead on to alive victims, and those that are fixed.
 
-    `ends` are the alive victims; `simple` has the arcs of the roots and slots that lead on to
-    them, `entries` those of the entries that matter, ascending.
+    `targets` tells for each link to what it leads, `ends` are the alive victims. `simple` has
+    the roots and slots that lead on to them, `entries` the entries that matter, ascending.
     """
 
     def __init__(self, snapshot, victims, fixed):
-        need_objects(snapshot, victims)
-        self.arcs = alive_arcs(arcs_of(snapshot))
-        need_links(self.arcs, fixed)
+        self.net = net_of(snapshot)
+        need_objects(self.net, victims)
+        met = self.net.met({})
+        need_links(self.net, met, fixed)
         self.fixed = {link: True for link in fixed}
-        there = {target: True for _, _, target in self.arcs}
-        self.ends = {number: True for number in victims if number in there}
-        leading = leading_to(self.arcs, self.ends)
-        useful = [arc for arc in self.arcs if arc[2] in leading]
-        self.simple = [arc for arc in useful if len(arc[1]) < len(SIDES)]
-        self.entries = sorted([arc for arc in useful if len(arc[1]) == len(SIDES)])
+        leads = self.net.leads(met)
+        self.targets = {link: target for link, target in leads}
+        self.ends = {number: True for number in victims if number in met}
+        useful = leading_to(leads, self.ends)
+        self.simple = [link for link in useful if link[0] != "entry"]
+        self.entries = [link for link in useful if link[0] == "entry"]
         if len(self.entries) > MOST_ENTRIES:
             raise TooMany(len(self.entries))
-        if len(self.arcs) > MOST_LINKS:
-            raise TooMany(len(self.arcs))
+        if len(leads) > MOST_LINKS:
+            raise TooMany(len(leads))
         self.choices = choices_of(len(self.entries))
 
-    def leads(self, choice):
-        """The arcs of the net of a choice, as (link, object, target)."""
-        found = [(link, sources[0] if len(sources) > 0 else START, target)
-                 for link, sources, target in self.simple]
-        for side, (link, sources, target) in zip(choice, self.entries):
-            found.append((link, sources[SIDES[side]], target))
+    def arcs_in(self, choice):
+        """The arcs of the net of a choice, as (link, object from which, object to which)."""
+        found = []
+        for link in self.simple:
+            found.append((link, START if link[0] == "root" else link[1], self.targets[link]))
+        for side, link in zip(choice, self.entries):
+            found.append((link, link[SIDES[side]], self.targets[link]))
         return found
 
     def ways_in(self, choice):
         """The ways in the net of a choice, of which none is found yet."""
         arcs = [(link, source, target, link in self.fixed)
-                for link, source, target in self.leads(choice)]
+                for link, source, target in self.arcs_in(choice)]
         return Ways(arcs, self.ends)
 
     def is_cut(self, value):
-        there = {link: True for link, _, _ in self.arcs}
         if not isinstance(value, tuple):
             return False
-        if not all([is_link(link) and link in there for link in value]):
+        if not all([is_link(link) and link in self.targets for link in value]):
             return False
         if not is_ascending(value) or any([link in self.fixed for link in value]):
             return False
-        gone = {link: True for link in value}
-        met = met_by([arc for arc in self.arcs if arc[0] not in gone])
+        met = self.net.without(value).met({})
         return not any([number in met for number in self.ends])
 
     def is_part(self, choice, count, value):
         """Whether any value is the part of a choice in evidence for so many links, or for None."""
         if not isinstance(value, tuple) or len(value) != (1 if count is None else count):
             return False
-        leads = {link: (source, target) for link, source, target in self.leads(choice)}
+        leads = {link: (source, target) for link, source, target in self.arcs_in(choice)}
         used = {}
         for way in value:
             if not self.is_way(leads, way):
@@ -139,11 +139,11 @@ class Cutting:
         return number in self.ends
 
 
-def leading_to(arcs, ends):
-    """The ends, and what leads on to them, as a dict of True."""
+def leading_to(leads, ends):
+    """Those of the links that lead on to the ends, ascending; leads are (link, object)."""
     needs = {}
-    for _, sources, target in arcs:
-        needs.setdefault(target, []).extend(list(sources))
+    for link, target in leads:
+        needs.setdefault(target, []).extend(list(sources_of(link)))
     met = {}
     ahead = list(ends)
     while len(ahead) > 0:
@@ -151,7 +151,7 @@ def leading_to(arcs, ends):
         if number not in met:
             met[number] = True
             ahead.extend(needs[number])
-    return met
+    return [link for link, target in leads if target in met]
 
 
 def choices_of(many):

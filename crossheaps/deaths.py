@@ -1,41 +1,40 @@
 """Deaths: what dies with objects and without links, what keeps an object, what grows."""
-from crossheaps.nets import alive_arcs, arcs_of, met_by, need_links, need_objects
+from crossheaps.nets import need_links, need_objects, net_of, sources_of
 from crossheaps.snapshots import alive
 
 
 def dies_with(snapshot, *numbers):
     """The ascending tuple of what is alive, but not if these objects are not there."""
-    need_objects(snapshot, numbers)
-    gone = {number: True for number in numbers}
-    arcs = arcs_of(snapshot)
-    return lost(arcs, [arc for arc in arcs if arc[2] not in gone])
+    net = net_of(snapshot)
+    need_objects(net, numbers)
+    return lost(net.met({}), net.met({number: True for number in numbers}))
 
 
 def dies_without(snapshot, *given):
     """The ascending tuple of what is alive, but not without these links."""
-    arcs = arcs_of(snapshot)
-    need_links(alive_arcs(arcs), given)
-    gone = {link: True for link in given}
-    return lost(arcs, [arc for arc in arcs if arc[0] not in gone])
+    net = net_of(snapshot)
+    met = net.met({})
+    need_links(net, met, given)
+    return lost(met, net.without(given).met({}))
 
 
-def lost(arcs, left):
-    """The ascending tuple of the objects to which arcs lead, but not those that are left."""
-    met = met_by(left)
-    return tuple(sorted([number for number in met_by(arcs) if number not in met]))
+def lost(met, left):
+    """The ascending tuple of the objects that were met, and are not left."""
+    return tuple(sorted([number for number in met if number not in left]))
 
 
 def keepers(snapshot, number):
     """The ascending tuple of the alive objects with which the object dies."""
-    need_objects(snapshot, [number])
-    table = Keeping(arcs_of(snapshot))
+    net = net_of(snapshot)
+    need_objects(net, [number])
+    table = Keeping(net)
     return tuple(sorted([other for other in table.bits if table.keeps(other, number)]))
 
 
 def growth(first, second):
     """(how many, object) of what is alive in both, for the new objects that die with it."""
     last = max([number for number, _, _, _ in first[1]], default=-1)
-    table = Keeping(arcs_of(second))
+    table = Keeping(net_of(second))
     fresh = [number for number in table.bits if number > last]
     found = []
     for number in alive(first):
@@ -54,14 +53,14 @@ class Keeping:
     forbids until nothing changes, keep just what no way around an object takes from them.
     """
 
-    def __init__(self, arcs):
-        met = met_by(arcs)
+    def __init__(self, net):
+        met = net.met({})
         self.bits = {number: 1 << at for at, number in enumerate(met)}
         whole = (1 << len(met)) - 1
         self.masks = {number: whole for number in met}
         ways = {number: [] for number in met}
-        for _, sources, target in alive_arcs(arcs):
-            ways[target].append(sources)
+        for link, target in net.leads(met):
+            ways[target].append(sources_of(link))
         while self.lessen(ways, whole):
             pass
 

@@ -23,47 +23,51 @@ def reach_of(heap, starts):
             continue
         met[number] = True
         thing = heap.objects[number]
-        for value in thing.slots:
-            if is_object(value):
-                ahead.append(value[1])
+        ahead.extend([value[1] for value in thing.slots if isinstance(value, tuple)])
         for key, value in thing.entries.items():
             # A value waits for its key, which may be met later than its map.
-            if is_object(value) and key in met:
-                ahead.append(value[1])
-            elif is_object(value):
-                waiting.setdefault(key, []).append(value[1])
-        ahead.extend(waiting.get(number, []))
+            if isinstance(value, tuple):
+                if key in met:
+                    ahead.append(value[1])
+                else:
+                    waiting.setdefault(key, []).append(value[1])
+        if number in waiting:
+            ahead.extend(waiting[number])
     return met
 
 
-def spread(heap, starts, met):
-    """What starts lead to by references, whatever the keys, they themselves too.
-
-    Only objects that are not in the dict met are found; they are added to it.
-    """
-    found = []
-    ahead = list(starts)
-    while len(ahead) > 0:
-        number = ahead.pop()
-        if number not in met:
-            met[number] = True
-            found.append(number)
-            ahead.extend(references_of(heap.objects[number]))
+def leads_among(heap, numbers):
+    """To which of these objects each of them has references, whatever the keys."""
+    there = {number: True for number in numbers}
+    found = {}
+    for number in numbers:
+        references = references_of(heap.objects[number])
+        found[number] = [other for other in references if other in there]
     return found
 
 
-def leading_back(heap, head, nodes):
-    """Those of the nodes that lead to the head through nodes alone, as a dict of True."""
-    holders = {number: [] for number in nodes}
-    for number in nodes:
-        for other in references_of(heap.objects[number]):
-            if other in holders:
-                holders[other].append(number)
-    met = {}
-    ahead = [head]
+def spread(leads, start, met):
+    """What an object leads to, it itself too, but for what is in the dict met; adds it to this."""
+    met[start] = True
+    found = [start]
+    ahead = [start]
     while len(ahead) > 0:
         number = ahead.pop()
-        if number not in met:
-            met[number] = True
-            ahead.extend(holders[number])
-    return met
+        for other in leads[number]:
+            if other not in met:
+                met[other] = True
+                found.append(other)
+                ahead.append(other)
+    return found
+
+
+def leading_back(leads, head, nodes):
+    """Those of the nodes that lead to the head through nodes alone, it itself too."""
+    if not any([head in leads[number] for number in nodes]):
+        return [head]
+    holders = {number: [] for number in nodes}
+    for number in nodes:
+        for other in leads[number]:
+            if other in holders:
+                holders[other].append(number)
+    return spread(holders, head, {})

@@ -4,7 +4,7 @@ What is done for each row tests values for objects by isinstance, without a call
 """
 from crossheaps.graph import reach_of
 from crossheaps.pages import Shelf
-from crossheaps.things import Thing, closes, held_by, object_value, twin_of
+from crossheaps.things import Thing, closes, object_value, references_of, twin_of
 
 
 class Sweep:
@@ -21,9 +21,10 @@ class Heap:
 
     `scopes` has the variables of the script, then those of each running call. `suspects` are
     the candidates, `line` is the queue, `sweep` the running cycle; `gripped` are the objects
-    with pins or holds. `lost` are the counted objects of which something let go in the current
-    step; `zeros` are those whose counts came to 0 and which wait for the next falls. `losses`
-    counts what settle looks for.
+    with pins or holds, `proxied` those with proxies, `young` the young traced ones, ascending.
+    `lost` are the counted objects of which something let go in the current step of a fall or
+    a burying; `zeros` are those whose counts came to 0 and which wait for the next falls.
+    `losses` counts what settle looks for.
     """
 
     def __init__(self):
@@ -32,6 +33,8 @@ class Heap:
         self.line = []
         self.suspects = {}
         self.gripped = {}
+        self.proxied = {}
+        self.young = {}
         self.sweep = None
         self.shelf = Shelf()
         self.fresh = 0
@@ -77,6 +80,7 @@ class Heap:
         elif thing.home == "counted" and thing.proxy is None:
             self.gain(thing)
             thing.proxy = 0
+            self.proxied[number] = True
 
     def lose_in(self, holder, value):
         """Counts a value that an object lets go; the proxies of traced holders stay."""
@@ -102,20 +106,25 @@ class Heap:
         self.zeros = {}
         return found
 
-    def fall(self):
-        falling = self.fallen()
+    def fall(self, falling):
+        """The falls that begin with these objects, ascending."""
         at = 0
         while at < len(falling):
             self.give_up(self.objects[falling[at]])
-            self.end_step()
-            falling.extend(self.fallen())
+            if len(self.lost) > 0:
+                self.end_step()
+                falling.extend(self.fallen())
             at += 1
 
-    def step(self):
-        """Ends a step with its falls; both come of losses alone."""
-        if len(self.lost) > 0:
-            self.end_step()
-            self.fall()
+    def lessen(self, number):
+        """The step of a statement, with its falls, in which one lets go of the object."""
+        thing = self.objects[number]
+        if thing.home == "counted":
+            thing.count -= 1
+            if thing.count > 0:
+                self.suspects.setdefault(number, True)
+            else:
+                self.fall([number])
 
     def give_up(self, thing):
         """Clears and removes what stands by a falling object, then queues or frees it."""
@@ -134,16 +143,17 @@ class Heap:
         weak.target = None
         self.tell_loss(("clear", number))
 
-    def unkey(self, owner, key):
-        self.cut_entry(self.objects[owner], key)
-        self.tell_loss(("unkey", owner, key))
+    def unkey(self, number, key):
+        owner = self.objects[number]
+        value = owner.entries[key]
+        self.cut_entry(owner, key)
+        self.lose_in(owner, value)
+        self.tell_loss(("unkey", number, key))
 
     def cut_entry(self, owner, key):
         """Removes an entry without an event."""
-        value = owner.entries[key]
         del owner.entries[key]
         del self.objects[key].maps[owner.number]
-        self.lose_in(owner, value)
 
     def enqueue(self, thing):
         thing.queued = True
@@ -166,8 +176,9 @@ class Heap:
         number = thing.number
         del self.objects[number]
         self.forget(thing)
-        for value in held_by(thing):
-            self.lose_in(thing, value)
+        if thing.home == "counted":
+            for other in references_of(thing):
+                self.lose(other)
         self.tell_loss(("free", number))
 
     def forget(self, thing):
@@ -177,8 +188,12 @@ class Heap:
             del self.suspects[number]
         if self.sweep is not None and number in self.sweep.marks:
             del self.sweep.marks[number]
+        if number in self.proxied:
+            del self.proxied[number]
         if thing.home == "traced":
             self.shelf.take(number)
+            if number in self.young:
+                del self.young[number]
         # What it names is there: targets are cleared, and entries removed, ahead of all frees.
         if thing.target is not None:
             del self.objects[thing.target].weaks[number]
@@ -187,6 +202,7 @@ class Heap:
 
     def unproxy(self, thing):
         thing.proxy = None
+        del self.proxied[thing.number]
         self.lose(thing.number)
         self.tell_loss(("unproxy", thing.number))
 
@@ -196,7 +212,7 @@ class Heap:
 
     def assign(self, name, value):
         """The step of an assignment of a variable."""
-        scope = self.scope_of(name)
+        scope = self.scopes[-1] if name.islower() else self.scopes[0]
         old = scope.get(name)
         scope[name] = value
         if value == old:
@@ -204,21 +220,29 @@ class Heap:
         if isinstance(value, tuple):
             self.gain(self.objects[value[1]])
         if isinstance(old, tuple):
-            self.lose(old[1])
-            self.step()
+            self.lessen(old[1])
 
-    def add_variable(self, scope, name, value):
-        """Gives a parameter its value."""
-        scope[name] = value
-        if isinstance(value, tuple):
-            self.gain(self.objects[value[1]])
+    def begin_scope(self, names, values):
+        """The variables of a call: parameters with these values."""
+        for value in values:
+            if isinstance(value, tuple):
+                self.gain(self.objects[value[1]])
+        self.scopes.append(dict(zip(names, values)))
+
+    def end_scope(self):
+        """Drops the variables of the innermost call."""
+        scope = self.scopes[-1]
+        for name in list(scope):
+            value = scope.pop(name)
+            if isinstance(value, tuple):
+                self.lessen(value[1])
+        self.scopes.pop()
 
     def unset(self, scope, name):
         """The step of a drop."""
         value = scope.pop(name)
         if isinstance(value, tuple):
-            self.lose(value[1])
-            self.step()
+            self.lessen(value[1])
 
     def store(self, holder, slot, value):
         """The step of an assignment of a slot."""
@@ -228,8 +252,8 @@ class Heap:
         holder.slots[slot] = value
         if isinstance(value, tuple):
             self.gain_in(holder, value[1])
-        self.lose_in(holder, old)
-        self.step()
+        if isinstance(old, tuple) and holder.home == "counted":
+            self.lessen(old[1])
 
     def enter(self, owner, key, value):
         """The step of an assignment of an entry."""
@@ -243,8 +267,8 @@ class Heap:
             self.objects[key].maps[owner.number] = True
             if isinstance(value, tuple):
                 self.gain_in(owner, value[1])
-            self.lose_in(owner, old)
-        self.step()
+        if isinstance(old, tuple) and owner.home == "counted":
+            self.lessen(old[1])
 
     def add_hold(self, thing):
         thing.holds += 1
@@ -271,13 +295,12 @@ class Heap:
         """The step in which a pin or a hold ends."""
         if thing.pins == 0 and thing.holds == 0:
             del self.gripped[thing.number]
-        self.lose(thing.number)
-        self.step()
+        self.lessen(thing.number)
 
-    def take_first(self, scope, name):
-        """The step in which the first object of the queue becomes a parameter of its call."""
+    def take_first(self, name):
+        """The step in which the first object of the queue becomes the parameter of its call."""
         # It is held by the parameter instead, so that its count stays.
-        scope[name] = object_value(self.line[0])
+        self.scopes.append({name: object_value(self.line[0])})
         self.line = self.line[1:]
 
     def new_thing(self, home, kind):
@@ -286,6 +309,7 @@ class Heap:
         self.fresh += 1
         self.objects[thing.number] = thing
         if home == "traced":
+            self.young[thing.number] = True
             self.house(thing)
         return thing
 
@@ -311,6 +335,8 @@ class Heap:
         other.line = list(self.line)
         other.suspects = dict(self.suspects)
         other.gripped = dict(self.gripped)
+        other.proxied = dict(self.proxied)
+        other.young = dict(self.young)
         if self.sweep is not None:
             other.sweep = Sweep(self.sweep.first, dict(self.sweep.marks))
             other.sweep.done = self.sweep.done

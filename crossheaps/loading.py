@@ -7,7 +7,7 @@ from crossheaps.machine import Machine
 from crossheaps.pages import CELLS
 from crossheaps.programs import procedures_in, steps_of
 from crossheaps.scripts import examine, statements_of
-from crossheaps.things import OLD, Thing, is_object, is_old, object_value, references_of
+from crossheaps.things import OLD, Thing, is_object, object_value, references_of
 
 MOST_DIGITS = 30
 MOST_SLOTS = 6
@@ -111,8 +111,11 @@ def read_object(heap, words):
     if thing.home == "traced":
         need(age is not None)
         thing.age = age
-    else:
+        if age < OLD:
+            heap.young[thing.number] = True
+    elif age is not None:
         thing.proxy = age
+        heap.proxied[thing.number] = True
     filler = FILLERS[thing.kind]
     filler(thing, words[6:])
 
@@ -231,7 +234,7 @@ def need_sound_pages(heap):
         lying.extend(there)
         for number in there:
             need(number in heap.objects)
-            need(is_old(heap.objects[number]) or shelf.kinds[page] == "young")
+            need(number not in heap.young or shelf.kinds[page] == "young")
     traced = [number for number, thing in heap.objects.items() if thing.home == "traced"]
     need(sorted(lying) == sorted(traced))
 

@@ -27,7 +27,8 @@ class Machine:
         known = {name: len(self.procedures[name].parameters) for name in self.procedures}
         partners = examine(statements, known)
         steps = steps_of(statements, partners)
-        self.procedures.update(procedures_in(text, statements, partners, steps))
+        if len(partners) > 0:
+            self.procedures.update(procedures_in(text, statements, partners, steps))
         return Work(self.heap, self.policy, self.procedures, steps)
 
     def run(self, text):

@@ -2,7 +2,7 @@
 from crossheaps.checks import thing_named
 from crossheaps.collect import begin, finish, go_on, minor
 from crossheaps.errors import Fault
-from crossheaps.things import is_young, object_value
+from crossheaps.things import object_value
 
 MOST_ROUNDS = 50
 
@@ -56,16 +56,12 @@ def collect_ahead(work, home):
     heap = work.heap
     policy = work.policy
     if home == "traced" and policy["young"] is not None:
-        if young_count(heap) >= policy["young"]:
+        if len(heap.young) >= policy["young"]:
             minor(heap, 1)
     if policy["start"] is not None and len(heap.objects) >= policy["start"]:
         begin(heap)
     if policy["pace"] is not None:
         go_on(heap, policy["pace"])
-
-
-def young_count(heap):
-    return len([thing for thing in heap.objects.values() if is_young(thing)])
 
 
 def is_full(work):

@@ -78,10 +78,6 @@ class Shelf:
             self.roomy[kind] = sorted(self.roomy[kind] + [page])
         cells[cell] = None
 
-    def kind_of(self, number):
-        """The kind of the page in which an object lies."""
-        return self.kinds[self.places[number][0]]
-
     def inhabitants(self, page):
         """The numbers of the objects of a page, in the order of their cells."""
         return [number for number in self.cells[page] if number is not None]

@@ -1,6 +1,6 @@
 """Snapshots: what is there, what is alive, and the links between."""
 from crossheaps.forms import HOMES, is_name
-from crossheaps.nets import alive_arcs, arcs_of, met_by
+from crossheaps.nets import net_of
 from crossheaps.things import is_integer, is_object
 
 MOST_OBJECTS = 400
@@ -120,9 +120,10 @@ def object_in(value):
 
 def alive(snapshot):
     """The ascending tuple of the objects in the reach of the roots."""
-    return tuple(sorted(list(met_by(arcs_of(snapshot)))))
+    return tuple(sorted(list(net_of(snapshot).met({}))))
 
 
 def links(snapshot):
     """The ascending tuple of the roots, and of the links of what is alive."""
-    return tuple(sorted([link for link, _, _ in alive_arcs(arcs_of(snapshot))]))
+    net = net_of(snapshot)
+    return tuple([link for link, _ in net.leads(net.met({}))])

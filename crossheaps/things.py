@@ -43,34 +43,23 @@ def object_value(number):
     return ("#", number)
 
 
-def is_young(thing):
-    return thing.home == "traced" and thing.age < OLD
-
-
-def is_old(thing):
-    return thing.home == "traced" and thing.age >= OLD
-
-
 def closes(thing):
     """Whether the object has a closing procedure that is still to come."""
     return thing.closing is not None and not thing.queued
 
 
-def held_by(thing):
-    """The values that the object holds in slots and entries."""
-    return list(thing.slots) + list(thing.entries.values())
-
-
 def references_of(thing):
     """The numbers of the objects that it has references to, as often as it has them."""
-    return [value[1] for value in held_by(thing) if is_object(value)]
+    if thing.kind == "record":
+        return [value[1] for value in thing.slots if isinstance(value, tuple)]
+    return [value[1] for value in thing.entries.values() if isinstance(value, tuple)]
 
 
 def shown_value(value):
     """How a value is told."""
-    if value is None:
-        return "none"
-    return f"#{value[1]}" if is_object(value) else str(value)
+    if isinstance(value, tuple):
+        return f"#{value[1]}"
+    return "none" if value is None else str(value)
 
 
 def twin_of(thing):

@@ -64,10 +64,8 @@ class Work:
 
     def call(self, procedure, values):
         """Begins a call with these values."""
-        scope = {}
-        for name, value in zip(procedure.parameters, values):
-            self.heap.add_variable(scope, name, value)
-        self.push_call(procedure, scope)
+        self.heap.begin_scope(procedure.parameters, values)
+        self.push_call(procedure)
 
     def close_first(self):
         """Begins the closing call of the first object of the queue."""
@@ -76,27 +74,18 @@ class Work:
         thing = heap.objects[heap.line[0]]
         procedure = self.procedures[thing.closing]
         heap.tell_loss(("close", thing.number))
-        scope = {}
-        heap.take_first(scope, procedure.parameters[0])
-        self.push_call(procedure, scope)
+        heap.take_first(procedure.parameters[0])
+        self.push_call(procedure)
 
-    def push_call(self, procedure, scope):
+    def push_call(self, procedure):
         call = Call(procedure.steps, procedure.start, procedure.shift)
-        self.heap.scopes.append(scope)
         self.calls.append(call)
         self.frames.append(call)
 
-    def end_call(self):
-        self.leave_call()
-        self.frames.pop()
-
     def leave_call(self):
-        """Drops the variables of the innermost call; those of the script stay."""
+        """Ends the innermost call; the variables of the script stay."""
         if len(self.calls) > 1:
-            scope = self.heap.scopes[-1]
-            for name in list(scope):
-                self.heap.unset(scope, name)
-            self.heap.scopes.pop()
+            self.heap.end_scope()
         self.calls.pop()
 
     def push_settling(self, settling):
