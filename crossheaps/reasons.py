@@ -50,12 +50,12 @@ class Costs:
         self.found = {}
         self.links = {}
         self.offers = {}
-        self.queue = []
+        self.ahead = []
         self.waiting = {}
         for root, number in net.roots:
             self.offer(1, number, ("root", root))
-        while len(self.queue) > 0 and wanted not in self.found:
-            price, number = heappop(self.queue)
+        while len(self.ahead) > 0 and wanted not in self.found:
+            price, number = heappop(self.ahead)
             if number not in self.found:
                 self.found[number] = price
                 self.go_on(number, net.rows[number])
@@ -64,7 +64,7 @@ class Costs:
         if number not in self.offers or price < self.offers[number]:
             self.offers[number] = price
             self.links[number] = link
-            heappush(self.queue, (price, number))
+            heappush(self.ahead, (price, number))
 
     def go_on(self, number, row):
         """Makes the offers that an object is the last source of."""

@@ -66,6 +66,19 @@ class TestForm(unittest.TestCase):
             for word in bound:
                 self.assertFalse(word in BARRED or hasattr(builtins, word), (name, word))
 
+    def test_names_of_properties(self):
+        """No attribute has the name of a property or of a generator."""
+        trees = [ast.parse(text) for text in sources().values()]
+        barred = {"run"}
+        for tree in trees:
+            barred |= {node.name for node in ast.walk(tree)
+                       if isinstance(node, ast.FunctionDef) and node.decorator_list}
+        self.assertIn("queue", barred)
+        for tree in trees:
+            for node in ast.walk(tree):
+                if isinstance(node, ast.Attribute) and isinstance(node.ctx, ast.Store):
+                    self.assertNotIn(node.attr, barred, node.lineno)
+
     def test_reversed(self):
         """Machine has __getitem__, so that reversed shows what it goes over."""
         for name, text in sources().items():
