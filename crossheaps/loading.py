@@ -170,7 +170,6 @@ def read_procedures(lines, starts):
         at = procedure.start - 1
         need(at in firsts)
         procedure.shift = firsts[at] - at
-    need(sum([len(procedure.lines) for procedure in found.values()]) == len(rows))
     return found
 
 
@@ -233,7 +232,6 @@ def need_sound_pages(heap):
         need(page < shelf.made and len(there) > 0)
         lying.extend(there)
         for number in there:
-            need(number in heap.objects)
             need(number not in heap.young or shelf.kinds[page] == "young")
     traced = [number for number, thing in heap.objects.items() if thing.home == "traced"]
     need(sorted(lying) == sorted(traced))

@@ -43,6 +43,22 @@ def fanned(many):
     return ((("a", 0),), tuple(objects))
 
 
+def layered(random):
+    """Four layers of records, numbered anew; the last one, below 5, are the victims."""
+    sizes = [random.randint(2, 5) for _ in range(4)]
+    numbers = [random.sample(range(10 * layer, 10 * layer + 10), size)
+               for layer, size in zip((3, 1, 2), sizes)] + [list(range(sizes[3]))]
+    objects = []
+    for layer, later in zip(numbers, numbers[1:] + [[]]):
+        for number in layer:
+            slots = random.sample(range(6), random.choice([1, 2, 2, 3])) if later else []
+            parts = tuple((slot, random.choice(later)) for slot in sorted(slots))
+            objects.append((number, "counted", "record", parts))
+    roots = tuple(("r" + "abcdefgh"[at], number) for at, number in enumerate(numbers[0] * 2)
+                  if at < 8)
+    return (tuple(sorted(roots)), tuple(sorted(objects)))
+
+
 def asked(random, shot):
     """Victims and fixed links of a snapshot."""
     numbers = [row[0] for row in shot[1]]
@@ -250,6 +266,21 @@ class TestFewestCuts(unittest.TestCase):
             self.assertEqual(raised(fewest_cuts, shot, victims, fixed), wanted)
             many += count > 4
         self.assertGreater(many, 30)
+
+
+    def test_links_that_others_stand_beside(self):
+        # Object 1 leads to 2 straight and by 3: neither slot is in a least cut of one link.
+        shot = ((("a", 9),), (
+            (1, "counted", "record", ((0, 2), (1, 3))), (2, "counted", "record", ((0, 4),)),
+            (3, "counted", "record", ((0, 2),)), (4, "counted", "record", ()),
+            (9, "counted", "record", ((0, 1),))))
+        self.assertEqual(fewest_cuts(shot, (4,)), (("root", "a"),))
+        fixed = (("root", "a"),)
+        self.assertEqual(fewest_cuts(shot, (4,), fixed), (("slot", 2, 0),))
+        fixed = (("root", "a"), ("slot", 2, 0))
+        self.assertEqual(fewest_cuts(shot, (4,), fixed), (("slot", 9, 0),))
+        fixed = (("root", "a"), ("slot", 2, 0), ("slot", 9, 0))
+        self.assertEqual(fewest_cuts(shot, (4,), fixed), (("slot", 1, 0), ("slot", 1, 1)))
 
 
 class TestEvidence(unittest.TestCase):
@@ -492,6 +523,24 @@ class TestLarge(unittest.TestCase):
             if raised(fewest_cuts, shot, victims, fixed) is None:
                 counts.add(self.check(shot, victims, fixed))
         self.assertGreater(len(counts), 2)
+
+    def test_layers(self):
+        """Many ways that cross: a cut and evidence of one number show each other."""
+        source = random.Random(180)
+        counts = {}
+        for _ in range(150):
+            shot = layered(source)
+            victims = tuple(row[0] for row in shot[1] if row[0] < 5)
+            fixed = tuple(link for link in links(shot) if source.random() < source.choice([0, 0.2]))
+            cut = fewest_cuts(shot, victims, fixed)
+            count = None if cut is None else len(cut)
+            parts = evidence(shot, victims, fixed)
+            self.assertTrue(plain_cuts.is_evidence(shot, victims, fixed, count, parts))
+            self.assertTrue(cut is None or plain_cuts.is_cut(shot, victims, fixed, cut))
+            counts[count] = counts.get(count, 0) + 1
+            if cut is not None and len(cut) <= 2:
+                self.assertEqual(cut, plain_cuts.fewest_cuts(shot, victims, fixed))
+        self.assertGreater(len(counts), 4)
 
     def test_chain(self):
         shot = chain(120)

@@ -174,6 +174,17 @@ class TestResume(unittest.TestCase):
         other.told("begin")
         self.assertEqual([other.cycle, resume(save(other)).cycle], [(0, 0), (0, 0)])
 
+    def test_greatest_and_least(self):
+        machine = Machine()
+        machine.told("let a = record counted 6\nlet b = record traced 6\nlet c = record counted 0\n"
+                     "b.5 = 1000000000\na.5 = b\na.0 = -1000000000\nlet abcdefgh = none\n"
+                     "let Abcdefgh = 0\nproc only a b c d\nsay d\nend")
+        other = resume(save(machine))
+        self.assertEqual(shown(other), shown(machine))
+        self.assertEqual(save(other), save(machine))
+        self.assertEqual(both(other, machine, "b.5 = a\ndo only a b c 5\nsay b.5\nsay a.0")[0][0],
+                         [("say", "5"), ("say", "#0"), ("say", "-1000000000")])
+
     def test_done_above_the_kept_ones(self):
         machine = Machine()
         machine.told("let a = map counted\nlet b = map counted\nlet c = map counted\nbegin\nslice 2\n"
@@ -365,6 +376,13 @@ class TestOtherTexts(unittest.TestCase):
             ("at 1\n", "at 1 1\n"), ("at 1\n", ""), ("at 1\n", "at 1\nsay 1\n"),
             ("at 1\n", "at 1\nat 1\n"), ("proc bye x\n", "proc bye\n"),
             ("do other x 1", "do other 1"), ("do other x 1", "do another x 1"),
+            ("let z 1", "let za1 1"), ("let z 1", "let zzzzzzzzz 1"), ("let z 1", "let z 1 1"),
+            ("let z 1", "let z False"), ("let z 1", "let z"), ("let z 1", "let z x"),
+            ("object 9 traced record 0 0 0 none new", "object 9 traced record 0 0 0 none"),
+            ("object 9 traced record 0 0 0 none new", "object 9 traced record 0 0 0"),
+            ("object 8 traced map 0 0 0", "object 8 traced map 0 0"),
+            ("object 8 traced map 0 0 0", "object 8"), ("object 8 traced map 0 0 0", "object"),
+            ("cycle 8 1 0 1 2 3 4 7", "cycle 90 1 0 1 2 3 4 7 8"),
             ("say y.0\nend\n", "say y.0\n"), ("say y.0\nend\n", "say y.0\nend\nend\n"),
             ("proc other p q", "proc bye p q"), ("say y.0", "say y.9"),
         ]
